@@ -1,0 +1,60 @@
+"""The interface [24]: names, parameters, and the file in which each function is defined."""
+
+import importlib
+import inspect
+import unittest
+
+INTERFACE = {
+    "words": (
+        "is_word(thing)", "word_power(word, many)", "root_of(word)", "commute(word, other)", "common_root(words)",
+        "turned(word, many)", "piece_of(row, start, many)", "is_piece(row, start, word)", "first_apart(word, other)",
+        "row_word(words, row)", "row_told(words, word)"),
+    "terms": (
+        "is_term(thing)", "depth(term)", "calls_in(term)", "words_in(term)", "makers_in(term)",
+        "parts_in_order(term)", "led(term, word)", "filled(term, answers)"),
+    "programs": (
+        "is_program(thing)", "checked(rules)", "leaves_of(rule)", "tests_of(rule)", "way_to(rule, number)",
+        "leaf_by(rule, held)", "called(program, name)", "reached(program)", "reached_part(program)",
+        "components(program)", "component_of(program, name)", "own_calls(program, name)", "kind_of(program, name)",
+        "is_plain(program, name)", "still_order(program)", "renamed(program, names)"),
+    "rows": (
+        "walk_word(walk)", "is_closed_walk(program, name, thing)", "rows_of(program, name)",
+        "is_rows(program, thing)", "fork_of(program, name)", "is_fork(program, thing)", "stride(program, name)",
+        "barred(program)", "can_loop(program)"),
+    "meanings": (
+        "is_meaning(thing)", "is_value(thing)", "is_for(meaning, program)", "led_thing(meaning, start, word)",
+        "leaf_at(program, meaning, name, start)", "asks_at(program, meaning, name, start)",
+        "asks_from(program, meaning, name, start)", "ring_from(program, meaning, name, start)",
+        "is_ring(program, meaning, name, start, thing)", "answer(program, meaning, name, start)",
+        "answer_parts(program, meaning, name, start)", "parted_things(program, other, meaning)"),
+    "webs": (
+        "web_of(program, meaning, name, start)", "asks_unlike(program, meaning, name, start)",
+        "asks_done(program, meaning, name, start)", "web_depth(program, meaning, name, start)",
+        "web_order(program, meaning, name, start)", "is_web_order(program, meaning, name, start, thing)",
+        "is_web_tree(program, meaning, name, start)", "two_ways(program, meaning, name, start)",
+        "is_two_ways(program, meaning, name, start, thing)"),
+}
+MANY = {"words": 11, "terms": 8, "programs": 16, "rows": 9, "meanings": 12, "webs": 9}
+
+
+class InterfaceTest(unittest.TestCase):
+
+    def test_names_and_parameters(self):
+        for module, functions in INTERFACE.items():
+            of_module = importlib.import_module("unwound." + module)
+            self.assertEqual(len(functions), MANY[module])
+            for written in functions:
+                function = getattr(of_module, written.partition("(")[0])
+                self.assertEqual(function.__name__ + str(inspect.signature(function)), written)
+
+    def test_defined_under_their_headings(self):
+        for module, functions in INTERFACE.items():
+            of_module = importlib.import_module("unwound." + module)
+            for written in functions:
+                function = getattr(of_module, written.partition("(")[0])
+                self.assertTrue(inspect.isfunction(function))
+                self.assertEqual(function.__module__, "unwound." + module)
+
+
+if __name__ == "__main__":
+    unittest.main()

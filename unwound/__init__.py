@@ -1,0 +1,1 @@
+"""Unwound: programs that call themselves, made into loops with few cells and no stack."""
