@@ -8,6 +8,8 @@ import builtins
 import keyword
 import re
 
+# A doctest that runs ahead leaves a name "_" among them.
+OF_PYTHON = frozenset(dir(builtins)) - {"_"}
 ERRORS = {
     "Exception", "ValueError", "TypeError", "KeyError", "IndexError", "LookupError", "ZeroDivisionError",
     "ArithmeticError", "OverflowError", "RuntimeError", "NotImplementedError"}
@@ -76,7 +78,7 @@ def _characters(name, text):
     found = []
     if re.search(r"[^\n -~]", text):
         found.append("L14 a character")
-    if not re.fullmatch(r"[a-z_][a-z0-9_]*\.py", name) or name[:-3] in dir(builtins):
+    if not re.fullmatch(r"[a-z_][a-z0-9_]*\.py", name) or name[:-3] in OF_PYTHON:
         found.append("L14 the name of the file")
     if re.match(r"law_|tests?\.py|testing|test_|site|conftest|sitecustomize|usercustomize", name):
         found.append("L14 the name of the file")
@@ -191,7 +193,7 @@ def _scopes(tree):
 
 
 def _name(name, line):
-    if name in dir(builtins) or name in BARRED_NAMES or keyword.issoftkeyword(name) and name != "_":
+    if name in OF_PYTHON or name in BARRED_NAMES or keyword.issoftkeyword(name) and name != "_":
         return [f"L15, L17 line {line}: {name}"]
     if name.startswith("__") or name.startswith(BARRED_STARTS) or not name.isascii():
         return [f"L12 line {line}: {name}"]
@@ -208,7 +210,7 @@ def _statement(node):
     if isinstance(node, ast.Try):
         if node.finalbody or any(not isinstance(own.type, ast.Name) for own in node.handlers):
             return [f"L19 line {node.lineno}"]
-        if any(own.type.id in dir(builtins) and own.type.id not in ("KeyError",) for own in node.handlers):
+        if any(own.type.id in OF_PYTHON and own.type.id not in ("KeyError",) for own in node.handlers):
             return [f"L19 line {node.lineno}"]
     if isinstance(node, ast.FunctionDef) and node.args.defaults:
         return [] if all(isinstance(own, ast.Constant) for own in node.args.defaults) else [f"L4 line {node.lineno}"]
@@ -315,7 +317,7 @@ def _stored_set(assign):
 
 
 def _name_read(node, tree):
-    if not isinstance(node.ctx, ast.Load) or node.id not in dir(builtins):
+    if not isinstance(node.ctx, ast.Load) or node.id not in OF_PYTHON:
         return []
     if node.id not in BUILTINS:
         return [f"L8 line {node.lineno}: {node.id}"]

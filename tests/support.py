@@ -117,7 +117,7 @@ def term_by_chance(dice, names=2, levels=2, parts=3):
     terms = [term_by_chance(dice, names, levels - 1, parts) for _ in range(dice.randint(1, parts))]
     if dice.random() < 0.3:
         terms[-1] = terms[0]
-    return "make", dice.randrange(3), tuple(terms)
+    return "make", dice.randrange(10), tuple(terms)
 
 
 def rule_by_chance(dice, names, tests, leaves):

@@ -153,6 +153,8 @@ class LeadingTest(unittest.TestCase):
             self.assertEqual(caught.exception.place, start)
             self.assertRaises(NoPlace, told, meanings.led_thing, LINE, start, ())
         self.assertEqual(told(meanings.led_thing, (2, (), ()), 1, ()), 1)
+        self.assertRaises(Unfit, told, meanings.led_thing, (3, LINE[1], LINE[2] * 5), 0, (0, 1))
+        self.assertEqual(told(meanings.led_thing, (3, LINE[1] * 3, ()), 0, (2, 1)), 2)
 
 
 class AsksTest(unittest.TestCase):
@@ -264,10 +266,19 @@ class AnswersTest(unittest.TestCase):
             self.assertRaises(TooMuch, told, meanings.answer, DEEPER, line_with(choices), 0, 0)
             self.assertEqual(meanings.answer_parts(DEEPER, line_with(choices), 0, 0), 47)
 
+    def test_the_deepest_place_counts(self):
+        leaf = ("make", 0, (("at", ()), ("make", 1, (("call", 0, (0,)), ("at", ()))), ("at", ())))
+        program = (("ask", 0, END, ("leaf", leaf)),)
+        for many, last in ((22, ("at", ())), (22, ("make", 0, (("at", ()),)))):
+            ending = (("ask", 0, ("leaf", last), program[0][3]),)
+            value = told(meanings.answer, ending, line_with((False,) * many), 0, 0)
+            self.assertEqual(value, plain.value(ending, line_with((False,) * many), (0, 0)))
+        self.assertRaises(TooMuch, told, meanings.answer, program, line_with((False,) * 23), 0, 0)
+
     def test_makings_beside_one_another_are_not_within(self):
-        wide = (("leaf", ("make", 0, (("call", 1, ()),) * 7)), WALK[0][:3] + (
-            ("leaf", ("make", 0, (("call", 1, (0,)),) * 2)),))
-        program = (wide[0], tuple(wide[1]))
+        program = (
+            ("leaf", ("make", 0, (("call", 1, ()),) * 7)),
+            ("ask", 0, END, ("leaf", ("make", 0, (("call", 1, (0,)),) * 2))))
         self.assertEqual(meanings.answer_parts(program, line_with((False,) * 6), 0, 0), 890)
         self.assertEqual(str(meanings.answer(program, line_with((False,) * 6), 0, 0)).count("make"), 442)
 

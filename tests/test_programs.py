@@ -240,6 +240,21 @@ class NamesTest(unittest.TestCase):
         self.assertEqual(told(programs.components, ring), ((0, 2), (1,)))
         self.assertEqual(told(programs.still_order, ring), (0, 1, 2))
 
+    def test_more_names_than_a_program_has_as_a_rule(self):
+        many = ("leaf", ("make", 0, tuple(("call", name, ()) for name in (16, 8, 1, 9, 3))))
+        program = (many,) + (END,) * 16
+        self.assertEqual(told(programs.called, program, 0), (1, 3, 8, 9, 16))
+        self.assertEqual(told(programs.reached, program), (0, 1, 3, 8, 9, 16))
+        at_once = [0, 1, 9, 17, 8]
+        ring = tuple(calling(at_once[(at_once.index(name) + 1) % 5]) if name in at_once else END for name in range(18))
+        with self.assertRaises(Ring) as caught:
+            told(programs.checked, ring)
+        self.assertEqual(caught.exception.names, (0, 1, 9, 17, 8))
+        fork = (("leaf", ("make", 0, (("call", 8, ()), ("call", 1, ())))), calling(0)) + (END,) * 6 + (calling(0),)
+        with self.assertRaises(Ring) as caught:
+            told(programs.checked, fork)
+        self.assertEqual(caught.exception.names, (0, 1))
+
     def test_reached_part(self):
         for program in PROGRAMS:
             part = told(programs.reached_part, program)

@@ -311,7 +311,7 @@ class ForksTest(unittest.TestCase):
                 (0, here, ()), (0, here, here + there), (10 ** 20, here, there), (0, there, there)):
             self.assertIs(rows.is_fork(BOTH_WAYS, thing), False, thing)
 
-    def test_a_fork_where_one_walk_begins_the_other(self):
+    def test_a_fork_of_walks_that_begin_alike(self):
         program = (("ask", 0, END, ("leaf", ("call", 1, (0,)))), ("ask", 1, END, on((1, (1,)), (0, ()), (0, (1,)))))
         thing = told(rows.fork_of, program, 0)
         self.assertEqual(thing[0], 1)
@@ -380,12 +380,19 @@ class LoopsTest(unittest.TestCase):
         self.assertEqual(told(rows.barred, (("leaf", ("call", 1, ())), bad)), [(1,)])
 
     def test_barred_stands_ascending(self):
-        rules = (on((1, ()), (2, ())),) + tuple(
-            ("ask", name, END, on((name, (0,)), (name, (1,)), (3, ()) if name == 1 else (name, (0,))))
-            for name in (1, 2, 3))
-        self.assertTrue(is_program(rules))
-        self.assertEqual(told(rows.barred, rules), [(1,), (2,), (3,)])
-        self.assertEqual(plain.components(rules), ((2,), (3,), (1,), (0,)))
+        for names in itertools.permutations(range(1, 5), 4):
+            rest = names[1:] + (0,)
+            rules = {0: on((names[0], ()))}
+            for test, (name, after) in enumerate(zip(names, rest)):
+                calls = ((name, (0,)), (name, (1,))) + (((after, ()),) if after else ())
+                rules[name] = ("ask", test, END, on(*calls))
+            program = tuple(rules[name] for name in range(5))
+            self.assertTrue(is_program(program))
+            self.assertEqual(told(rows.barred, program), [(1,), (2,), (3,), (4,)])
+            self.assertEqual(plain.components(program), tuple((name,) for name in names[::-1]) + ((0,),))
+        many = (on(*((name, ()) for name in range(1, 30))),) + tuple(
+            ("ask", name, END, on((name, (0,)), (name, (1,)))) for name in range(1, 30))
+        self.assertEqual(rows.barred(many), [(name,) for name in range(1, 30)])
 
     def test_the_list_is_new(self):
         first = rows.barred(BOTH_WAYS)

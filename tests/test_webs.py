@@ -22,6 +22,9 @@ def webs_by_chance(seed, many):
     """PROGRAMS, MEANINGS for them, ASKS with a WEB of at least two ASKS, now and then of one."""
     dice, found = chance(seed), []
     while len(found) < many:
+        if dice.random() < 0.2:
+            found.append((TWO_STEPS, meaning_going_on(dice), (0, 0)))
+            continue
         program = rules_by_chance(dice, 3)
         if plain.least_ring(program) is not None or plain.endless(program):
             continue
@@ -32,7 +35,14 @@ def webs_by_chance(seed, many):
     return found
 
 
-WEBS = webs_by_chance(90, 300)
+def meaning_going_on(dice):
+    """A MEANING of two STEPS, each leading to a greater thing; the last one, and maybe some others, end."""
+    many = dice.randint(3, 6)
+    steps = tuple(tuple(min(x + dice.randint(1, 2), many - 1) for x in range(many)) for _ in range(2))
+    return many, steps, (tuple(x == many - 1 or dice.random() < 0.2 for x in range(many)),)
+
+
+WEBS = webs_by_chance(90, 450)
 ASKING = (
     webs.web_of, webs.asks_unlike, webs.asks_done, webs.web_depth, webs.web_order, webs.is_web_tree, webs.two_ways)
 
@@ -113,7 +123,7 @@ class WebsTest(unittest.TestCase):
                     self.assertRaises(CanNot, told, function, program, meaning, *ask)
                 asks = tuple(sorted(plain.asks_from(program, meaning, ask)))
                 self.assertIs(told(webs.is_web_order, program, meaning, *ask, asks), False)
-        self.assertGreater(min(met.values()), 50)
+        self.assertGreater(min(met.values()), 45)
 
     def test_very_many_asks_done(self):
         chain = (40, (tuple(min(x + 1, 39) for x in range(40)),) * 2, ((False,) * 39 + (True,),))
@@ -220,6 +230,11 @@ class WaysTest(unittest.TestCase):
         self.assertEqual(told(webs.two_ways, WALK, still, 0, 0), ((), (ONE,)))
         self.assertEqual(told(webs.asks_unlike, WALK, still, 0, 0), 1)
         self.assertRaises(CanNot, told, webs.web_depth, WALK, still, 0, 0)
+
+    def test_the_lesser_way_may_be_the_longer_one(self):
+        self.assertEqual(told(webs.two_ways, TWIN, FAR, 0, 0), ((ONE, ONE), (TWO,)))
+        self.assertEqual(told(webs.web_depth, TWIN, FAR, 0, 0), 5)
+        self.assertEqual(told(webs.asks_done, TWIN, FAR, 0, 0), 15)
 
     def test_two_calls_to_one_ask(self):
         self.assertIs(told(webs.is_web_tree, TWIN, FAR, 0, 3), True)

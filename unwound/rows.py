@@ -78,6 +78,7 @@ def _walks_out(owns, first):
 def _round_walks(owns):
     """The list of closed WALKS of the least NAME through each NAME and each own call.
 
+    They come to the least NAME at their ends alone, as the WALKS of which they are made are shortest.
     If their WORDS are powers of one WORD, those of all closed WALKS of this NAME are: each of these
     is what one comes to if one goes along the WALKS through its calls, but back again along those
     through the NAMES between them.
@@ -131,16 +132,10 @@ def fork_of(program, name):
 def _forked(near, one, other):
     """A FORK from two closed WALKS of near whose WORDS do not commute.
 
-    What both begin by is taken off: where one is all of it, the rest of the other is a closed WALK
-    and does not commute with it either; else it is gone along last instead of first.
+    They come to near at their ends alone, so neither is the beginning of the other. The calls by which
+    both begin are put behind the rest instead: that turns both WORDS alike.
     """
     apart = first_apart(one, other)
-    while apart is None:
-        if len(one) > len(other):
-            one = one[len(other):]
-        else:
-            other = other[len(one):]
-        apart = first_apart(one, other)
     both = one[:apart]
     if both:
         near = both[-1][0]
