@@ -54,13 +54,39 @@ def in_file(name, text, package):
     for node in ast.walk(tree):
         for child in ast.iter_child_nodes(node):
             child.above = node
-    found += _module_level(tree) + _imports(name, tree, package) + _scopes(tree)
+    found += _module_level(tree) + _imports(name, tree, package) + _scopes(tree) + _classes(tree)
+    own = own_names([*package.values(), text])
     for node in ast.walk(tree):
         if isinstance(node, ast.stmt):
             found += _statement(node)
         elif isinstance(node, ast.expr):
-            found += _expression(node, tree)
+            found += _expression(node, own)
     return [f"{name}: {told}" for told in found]
+
+
+def own_names(texts):
+    """The sets of the attributes and of the methods of the classes in texts."""
+    attributes, methods = set(), set()
+    for node in [node for text in texts for node in ast.walk(ast.parse(text)) if isinstance(node, ast.ClassDef)]:
+        methods |= {part.name for part in node.body if isinstance(part, ast.FunctionDef)}
+        for part in ast.walk(node):
+            if isinstance(part, ast.Attribute) and isinstance(part.ctx, ast.Store):
+                attributes.add(part.attr)
+    return attributes, methods
+
+
+def _classes(tree):
+    """What breaks a rule in the names of the methods and attributes of a file, and in where its classes stand."""
+    attributes, methods = own_names([ast.unparse(tree)])
+    found = [f"L18 {name} is a method and an attribute" for name in sorted(attributes & methods)]
+    found += [f"L26 {name} is of Python" for name in sorted((attributes | methods) & (METHODS - {"__init__"}))]
+    found += [told for name in sorted(attributes | methods - {"__init__"}) for told in _name(name, 0)]
+    for node in ast.walk(tree):
+        if isinstance(node, ast.ClassDef) and node not in tree.body:
+            found.append(f"L15 line {node.lineno}")
+        if isinstance(node, ast.Attribute) and isinstance(node.ctx, ast.Store) and not isinstance(node.value, ast.Name):
+            found.append(f"L18 line {node.lineno}")
+    return found
 
 
 def _sizes(text):
@@ -237,7 +263,7 @@ def _changed_in_loop(node):
     return found
 
 
-def _expression(node, tree):
+def _expression(node, own):
     if not isinstance(node, EXPRESSIONS):
         return [f"L7 line {node.lineno}"]
     if isinstance(node, ast.Constant):
@@ -251,9 +277,9 @@ def _expression(node, tree):
     if isinstance(node, (ast.Set, ast.SetComp)):
         return _set_place(node)
     if isinstance(node, ast.Name):
-        return _name_read(node, tree)
+        return _name_read(node)
     if isinstance(node, ast.Attribute):
-        return _attribute(node)
+        return _attribute(node, own)
     if isinstance(node, ast.Call):
         return _call(node)
     return []
@@ -316,7 +342,7 @@ def _stored_set(assign):
     return found
 
 
-def _name_read(node, tree):
+def _name_read(node):
     if not isinstance(node.ctx, ast.Load) or node.id not in OF_PYTHON:
         return []
     if node.id not in BUILTINS:
@@ -331,11 +357,12 @@ def _name_read(node, tree):
     return [f"L22 line {node.lineno}: {node.id}"]
 
 
-def _attribute(node):
+def _attribute(node, own):
     if node.attr in BARRED_NAMES or node.attr.startswith("__") and node.attr != "__init__":
         return [f"L17 line {node.lineno}: {node.attr}"]
     called = isinstance(node.above, ast.Call) and node is node.above.func
-    if called and node.attr not in METHODS or not called and node.attr not in ("place", "line", "names"):
+    attributes, methods = own
+    if called and node.attr not in METHODS | methods | attributes or not called and node.attr not in attributes:
         return [f"L25, L26 line {node.lineno}: {node.attr}"]
     return []
 

@@ -1,5 +1,6 @@
 """Slow and plain ways to tell what the document says of PROGRAMS and ASKS, for the tests to compare with."""
 
+import functools
 import itertools
 
 
@@ -64,6 +65,7 @@ def endless(rules):
     return tuple(name for name in range(len(rules)) if name not in ending)
 
 
+@functools.lru_cache(maxsize=1000)
 def component(rules, name):
     """The COMPONENT of name."""
     return tuple(sorted({name} | {
@@ -90,6 +92,7 @@ def still_order(rules):
     return tuple(order)
 
 
+@functools.lru_cache(maxsize=1000)
 def own_calls(rules, name):
     """For each leaf of name its own calls."""
     home = component(rules, name)

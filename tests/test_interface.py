@@ -33,8 +33,19 @@ INTERFACE = {
         "web_order(program, meaning, name, start)", "is_web_order(program, meaning, name, start, thing)",
         "is_web_tree(program, meaning, name, start)", "two_ways(program, meaning, name, start)",
         "is_two_ways(program, meaning, name, start, thing)"),
+    "pebbles": (
+        "is_shape(thing)", "shape_of(term)", "web_cells(shape)", "web_play(shape)", "is_play(shape, many, thing)",
+        "fewest_puts(shape, many)", "sparing_cells(shape)", "sparing_play(shape)", "is_sparing(shape, many, thing)",
+        "closed_sets(shape, many)", "is_closed(shape, many, thing)", "is_tree(shape, depth, thing)"),
+    "loops": (
+        "is_loops(thing)", "stands_of(loops, meaning, start, many)", "end_of(loops, meaning, start)",
+        "run(loops, meaning, start)", "work(loops, meaning, start)", "may_fault(loops)", "tidied(loops)"),
+    "paths": (
+        "along_path(program)", "chain(program, meaning, name, start)", "chain_word(program, meaning, name, start)",
+        "is_chain(program, meaning, thing)", "chain_lengths(program, meaning, name)", "path_loops(program)"),
 }
-MANY = {"words": 11, "terms": 8, "programs": 16, "rows": 9, "meanings": 12, "webs": 9}
+MANY = {
+    "words": 11, "terms": 8, "programs": 16, "rows": 9, "meanings": 12, "webs": 9, "pebbles": 12, "loops": 7, "paths": 6}
 
 
 class InterfaceTest(unittest.TestCase):

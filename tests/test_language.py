@@ -24,6 +24,8 @@ BROKEN = {
             "def f():\n    return [min for min in ()]\n", "def next():\n    pass\n"),
     "L16": ("from unwound.words import is_term\n", "from unwound.terms import is_word\n"),
     "L17": ("def f(open):\n    pass\n", "def f(x):\n    return x.mro\n", "A = 'type'\n", "def f(type):\n    pass\n"),
+    "L18": ("class A:\n    def __init__(self):\n        self.one = 1\n\n    def one(self):\n        return 1\n",
+            "def f(x):\n    x.one.two = 1\n"),
     "L19": ("def f():\n    raise ValueError\n", "def f():\n    try:\n        g()\n    except ValueError:\n        pass\n",
             "def f():\n    try:\n        g()\n    except:\n        pass\n"),
     "L20": ("def f(x, y):\n    return x is y\n", "def f(x):\n    return x is 3\n"),
@@ -34,6 +36,8 @@ BROKEN = {
             "def f(x):\n    y = set(x)\n    return y\n", "def f(x):\n    y = {k for k in x}\n    y = 1\n",
             "def f(x):\n    return list({k for k in x})\n"),
     "L25": ("def f(x):\n    x.sort(key=1)\n", "def f(x):\n    return x.intersection(x)\n", "def f(x):\n    return x.real\n"),
+    "L26": ("class A:\n    def find(self):\n        return 1\n", "def f(x):\n    x.items = 1\n",
+            "class A:\n    def __init__(self):\n        self.count = 1\n"),
     "L27": ("def f(x):\n    return x ** x\n", "A = '5 %'\n", "A = '._'\n"),
 }
 
@@ -53,8 +57,8 @@ class PackageTest(unittest.TestCase):
 
     def test_files(self):
         files = package()
-        for name, text in files.items():
-            self.assertEqual(language.in_file(name, text, files), [])
+        found = [told for name, text in files.items() for told in language.in_file(name, text, files)]
+        self.assertEqual(found, [])
 
     def test_imports_go_in_no_ring(self):
         self.assertEqual(language.import_rings(package()), [])

@@ -62,10 +62,10 @@ def led_thing(meaning, start, word):
     if not all(step < len(sense[1]) for step in steps):
         raise Unfit()
     require_place(start, sense[0])
-    return _thing_at(sense, start, steps)
+    return thing_at(sense, start, steps)
 
 
-def _thing_at(meaning, start, word):
+def thing_at(meaning, start, word):
     """The thing start . word."""
     x = start
     for step in word:
@@ -76,10 +76,10 @@ def _thing_at(meaning, start, word):
 def leaf_at(program, meaning, name, start):
     """The number of the leaf to which the ASK (name, start) comes."""
     rules, sense = asked_of(program, meaning, name, start)
-    return _leaf_number(rules[name], sense, start)
+    return leaf_number(rules[name], sense, start)
 
 
-def _leaf_number(rule, meaning, x):
+def leaf_number(rule, meaning, x):
     """The number of the leaf to which rule comes by the TESTS of the thing x."""
     return leaf_by(rule, [test for test in tests_of(rule) if meaning[2][test][x]])
 
@@ -87,7 +87,7 @@ def _leaf_number(rule, meaning, x):
 def _leaf_of(program, meaning, ask):
     """The leaf of ask."""
     name, x = ask
-    return leaves_of(program[name])[_leaf_number(program[name], meaning, x)]
+    return leaves_of(program[name])[leaf_number(program[name], meaning, x)]
 
 
 def asks_at(program, meaning, name, start):
@@ -99,7 +99,7 @@ def asks_at(program, meaning, name, start):
 def _calls_out(program, meaning, ask):
     """The list of the pairs (call, asked): the calls of the leaf of ask, the ASKS to which they lead."""
     calls = calls_in(_leaf_of(program, meaning, ask))
-    return [(call, (call[0], _thing_at(meaning, ask[1], call[1]))) for call in calls]
+    return [(call, (call[0], thing_at(meaning, ask[1], call[1]))) for call in calls]
 
 
 def web_from(program, meaning, asks):
@@ -174,7 +174,7 @@ def _told(program, meaning, asks, of_thing, of_make):
 def _told_at(program, meaning, ask, told, of_thing, of_make):
     """What the answer of ask comes to, told having those of all for which it asks."""
     def of_leaf(part):
-        x = _thing_at(meaning, ask[1], part[-1])
+        x = thing_at(meaning, ask[1], part[-1])
         return of_thing(x) if part[0] == "at" else told[(part[1], x)]
     return folded(_leaf_of(program, meaning, ask), of_leaf, of_make)
 

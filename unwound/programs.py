@@ -193,14 +193,25 @@ def reached_part(program):
 
 def _with_names(rule, names):
     """The RULE in which NAME f is called names[f]."""
-    made = []
+    leaves = leaves_of(rule)
+    return rule_folded(
+        rule,
+        lambda number: ("leaf", _leaf_with_names(leaves[number], names)),
+        lambda test, yes, no: ("ask", test, yes, no))
+
+
+def rule_folded(rule, of_leaf, of_ask):
+    """What rule comes to if its leaf of each number comes to of_leaf(number), from the last one to the
+    first, and each ask to of_ask(test, yes, no), yes and no being what its two CHOICES come to."""
+    made, number = [], len(leaves_of(rule))
     for choice in reversed(_choices(rule)):
         if choice[0] == "leaf":
-            made.append(("leaf", _leaf_with_names(choice[1], names)))
+            number -= 1
+            made.append(of_leaf(number))
         else:
             yes = made.pop()
             no = made.pop()
-            made.append(("ask", choice[1], yes, no))
+            made.append(of_ask(choice[1], yes, no))
     return made[0]
 
 

@@ -95,19 +95,25 @@ def makers_in(term):
 
 def parts_in_order(term):
     """The tuple of the unlike parts of term, each behind all parts of its terms."""
-    places, found, stack = {}, [], []
-    for part in occurrences(frozen(term)):
-        key = part
+    return tuple([part for part, places in parts_with_places(frozen(term))])
+
+
+def parts_with_places(term):
+    """The list of the pairs (part, places), in the order of parts_in_order: places tell its terms there."""
+    numbers, found, stack = {}, [], []
+    for part in occurrences(term):
+        key, places = part, ()
         if part[0] == "make":
             # The terms are told by their places: a key that nests like a TERM might nest too deep.
             first = len(stack) - len(part[2])
-            key = ("make", part[1], tuple(stack[first:]))
+            places = tuple(stack[first:])
+            key = ("make", part[1], places)
             del stack[first:]
-        if key not in places:
-            places[key] = len(found)
-            found.append(part)
-        stack.append(places[key])
-    return tuple(found)
+        if key not in numbers:
+            numbers[key] = len(found)
+            found.append((part, places))
+        stack.append(numbers[key])
+    return found
 
 
 def led(term, word):

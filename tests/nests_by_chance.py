@@ -1,0 +1,62 @@
+"""PROGRAMS by chance whose COMPONENTS are paths, rows and still NAMES, for the tests of LOOPS."""
+
+from tests.support import word_by_chance
+
+MAKERS = 10
+
+
+def leaf_by_chance(dice, calls):
+    """A leaf with these calls, some things, and makings of them; like calls may stand in it twice."""
+    terms = list(calls) + [("at", word_by_chance(dice, 2)) for _ in range(dice.randint(0, 1) if calls else 1)]
+    dice.shuffle(terms)
+    while len(terms) > 1:
+        many = dice.randint(2, len(terms))
+        terms[:many] = [("make", dice.randrange(MAKERS), tuple(terms[:many]))]
+        dice.shuffle(terms)
+    return "leaf", terms[0] if dice.random() < 0.5 else ("make", dice.randrange(MAKERS), tuple(terms))
+
+
+def rule_of(dice, leaves, tests):
+    """A RULE with these leaves, in their order."""
+    if len(leaves) == 1:
+        return leaves[0]
+    many = dice.randint(1, len(leaves) - 1)
+    return "ask", tests.pop(), rule_of(dice, leaves[:many], tests), rule_of(dice, leaves[many:], tests)
+
+
+def foreign_calls(dice, names, most):
+    """Calls of NAMES that are not of the own COMPONENT, of at most so many NAMES and WORDS."""
+    return [("call", dice.choice(names), word_by_chance(dice, 2)) for _ in range(dice.randint(0, most) if names else 0)]
+
+
+def path_rules(dice, home, lower, tests, foreign=2):
+    """The RULES of a COMPONENT home that is a path, and calls NAMES of lower, too."""
+    rules = []
+    for place, name in enumerate(home):
+        leaves = []
+        for number in range(dice.randint(2 if place == 0 else 1, 3)):
+            calls = foreign_calls(dice, lower, foreign)
+            if number == 1 or place and number == 0 or dice.random() < 0.4:
+                after = home[(place + 1) % len(home)] if number == (place == 0) else dice.choice(home)
+                calls += [("call", after, word_by_chance(dice, 2))] * dice.choice((1, 1, 2))
+            leaves.append(leaf_by_chance(dice, calls))
+        dice.shuffle(leaves)
+        rules.append(rule_of(dice, leaves, tests))
+    return rules
+
+
+def still_rules(dice, lower, tests, foreign=2):
+    """The RULE of a NAME that is still."""
+    leaves = [leaf_by_chance(dice, foreign_calls(dice, lower, foreign)) for _ in range(dice.randint(1, 3))]
+    return [rule_of(dice, leaves, tests)]
+
+
+def path_program(dice, most_names=3, most_still=2):
+    """RULES that may be a PROGRAM along a path."""
+    tests = dice.sample(range(12), 12)
+    home = list(range(dice.randint(1, most_names)))
+    still = list(range(len(home), len(home) + dice.randint(0, most_still)))
+    rules = path_rules(dice, home, still, tests)
+    for name in still:
+        rules += still_rules(dice, [other for other in still if other > name], tests)
+    return tuple(rules)
