@@ -60,3 +60,38 @@ def path_program(dice, most_names=3, most_still=2):
     for name in still:
         rules += still_rules(dice, [other for other in still if other > name], tests)
     return tuple(rules)
+
+
+def row_rules(dice, home, lower, tests, foreign=2, most_steps=3):
+    """The RULES of a COMPONENT home that keeps to a row, each with one leaf of own calls; it calls NAMES of lower, too."""
+    row = tuple(dice.randrange(2) for _ in range(dice.randint(1, 4)))
+    places = [dice.randrange(len(row)) for _ in home]
+    rules = []
+    for number, name in enumerate(home):
+        own = []
+        for other in [(number + 1) % len(home)] + [dice.randrange(len(home)) for _ in range(dice.randint(0, 2))]:
+            sizes = [size for size in range(most_steps + 1) if (places[number] + size - places[other]) % len(row) == 0]
+            if sizes:
+                size = dice.choice(sizes)
+                own.append(("call", home[other], tuple((row * 9)[places[number]:places[number] + size])))
+        leaves = [leaf_by_chance(dice, own + foreign_calls(dice, lower, foreign))]
+        for _ in range(dice.randint(1 if number == 0 else 0, 2)):
+            leaves.append(leaf_by_chance(dice, foreign_calls(dice, lower, foreign)))
+        dice.shuffle(leaves)
+        rules.append(rule_of(dice, leaves, tests))
+    return rules
+
+
+def nest_program(dice, most_foreign=1):
+    """RULES that may be a PROGRAM of COMPONENTS within one another: paths, rows and still NAMES."""
+    tests, names, homes = dice.sample(range(20), 20), 0, []
+    for _ in range(dice.randint(1, 3)):
+        many = dice.choice((1, 1, 2))
+        homes.append(list(range(names, names + many)))
+        names += many
+    rules = []
+    for place, home in enumerate(homes):
+        lower = [name for other in homes[place + 1:] for name in other]
+        kind = dice.choice((path_rules, row_rules, row_rules, still_rules)) if len(home) == 1 else dice.choice((path_rules, row_rules))
+        rules += kind(dice, home, lower, tests, most_foreign) if kind is not still_rules else kind(dice, lower, tests, most_foreign)
+    return tuple(rules)

@@ -179,7 +179,7 @@ def _told_at(program, meaning, ask, told, of_thing, of_make):
     return folded(_leaf_of(program, meaning, ask), of_leaf, of_make)
 
 
-def _told_of(program, meaning, ask, of_thing, of_make):
+def told_of(program, meaning, ask, of_thing, of_make):
     """What the answer of ask comes to, likewise."""
     told = _told(program, meaning, [ask], of_thing, of_make)
     if ask not in told:
@@ -192,10 +192,10 @@ def answer(program, meaning, name, start):
     rules, sense = asked_of(program, meaning, name, start)
     ask = (name, start)
     parts = _parts_told(rules, sense, ask)
-    within = _told_of(rules, sense, ask, lambda x: 0, lambda maker, depths: 1 + max(depths))
+    within = told_of(rules, sense, ask, lambda x: 0, lambda maker, depths: 1 + max(depths))
     if parts > MOST_PARTS or within > MOST_MAKINGS_WITHIN:
         raise TooMuch()
-    return _told_of(rules, sense, ask, lambda x: ("thing", x), making)
+    return told_of(rules, sense, ask, lambda x: ("thing", x), making)
 
 
 def answer_parts(program, meaning, name, start):
@@ -206,7 +206,7 @@ def answer_parts(program, meaning, name, start):
 
 def _parts_told(program, meaning, ask):
     """How many parts the answer of ask has."""
-    return _told_of(program, meaning, ask, lambda x: 1, lambda maker, parts: 1 + sum(parts))
+    return told_of(program, meaning, ask, lambda x: 1, lambda maker, parts: 1 + sum(parts))
 
 
 def parted_things(program, other, meaning):
@@ -216,11 +216,11 @@ def parted_things(program, other, meaning):
         raise Unfit()
     asks = [(0, x) for x in range(sense[0])]
     numbers = {}
-    one, two = _numbered(rules, sense, asks, numbers), _numbered(others, sense, asks, numbers)
+    one, two = numbered(rules, sense, asks, numbers), numbered(others, sense, asks, numbers)
     return tuple([ask[1] for ask in asks if one.get(ask) != two.get(ask)])
 
 
-def _numbered(program, meaning, asks, numbers):
+def numbered(program, meaning, asks, numbers):
     """For each ASK that ends and can be come to from asks: the number that its answer has in numbers.
 
     Like VALUES have one number, so answers that are too great to be written are told apart.

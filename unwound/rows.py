@@ -161,7 +161,7 @@ def stride(program, name):
     return most
 
 
-def _wide_reached(rules, table):
+def wide_reached(rules, table):
     """The list, ascending, of the wide COMPONENTS that 0 comes to; table has the own calls."""
     homes = homes_of(rules)
     return sorted({homes[name] for name in reached(rules) if kind_in(table, homes[name]) == "wide"})
@@ -171,13 +171,13 @@ def barred(program):
     """The list, ascending, of the wide COMPONENTS that 0 comes to and that have no ROWS."""
     rules = frozen(program)
     table = own_table(rules)
-    return [home for home in _wide_reached(rules, table) if not _has_rows(_owns_in(table, home))]
+    return [home for home in wide_reached(rules, table) if not has_rows(table, home)]
 
 
-def _has_rows(owns):
-    """True if the COMPONENT with these own calls has ROWS."""
+def has_rows(table, home):
+    """True if the COMPONENT home, which is not still, has ROWS; table has the own calls."""
     try:
-        _common_word(owns)
+        _common_word(_owns_in(table, home))
     except CanNot:
         return False
     return True
@@ -187,6 +187,6 @@ def can_loop(program):
     """True if some LOOPS do program."""
     rules = frozen(program)
     table = own_table(rules)
-    if not all(is_plain_in(table, home) for home in _wide_reached(rules, table)):
+    if not all(is_plain_in(table, home) for home in wide_reached(rules, table)):
         raise Unfit()
     return not barred(rules)

@@ -1,0 +1,174 @@
+"""Free MEANINGS of TURNS, and TREE PAPERS: why few cells do not make an answer [16].
+
+Asking by TURNS is told by pairs (name, word): the NAME is asked at the WORD.
+"""
+
+from unwound.common import frozen, is_natural, is_tuple
+from unwound.errors import CanNot
+from unwound.branching import branching_turns, grown_tree, shortest_branching
+from unwound.loops import end_of
+from unwound.meanings import answer, asked_of, numbered
+from unwound.pebbles import is_tree
+from unwound.programs import leaves_of, tests_of, way_to
+from unwound.rows import can_loop
+from unwound.terms import calls_in, words_in
+from unwound.words import is_word
+
+
+def ends_by(program):
+    """The tuple with, for each NAME, the place of the leaf that it ends by."""
+    needed = [[sorted({name for name, word in calls_in(leaf)}) for leaf in leaves_of(rule)] for rule in frozen(program)]
+    ends = [None] * len(needed)
+    while None in ends:
+        # What gets its leaf in one round does not count until the next one.
+        ahead = list(ends)
+        for name, leaves in enumerate(needed):
+            if ahead[name] is None:
+                ends[name] = _first_ending(leaves, ahead)
+    return tuple(ends)
+
+
+def _first_ending(leaves, ends):
+    """The first place in leaves of NAMES all of which have an end; None if there is none."""
+    for place, names in enumerate(leaves):
+        if all(ends[name] is not None for name in names):
+            return place
+    return None
+
+
+def _goes(rules, turns):
+    """The pair of a dict with the leaf of each pair (name, word) of TURNS, and of what NAMES end by."""
+    return {(name, word): leaf for name, word, leaf in turns}, ends_by(rules)
+
+
+def _leaf_at(goes, name, word):
+    """The place of the leaf to which name goes at word."""
+    return goes[0].get((name, word), goes[1][name])
+
+
+def _free_words(rules, goes):
+    """The words of TURNS."""
+    leaves = [leaves_of(rule) for rule in rules]
+    met, waiting, ends = {(0, ()): True}, [(0, ())], [()]
+    while waiting:
+        name, word = waiting.pop()
+        leaf = leaves[name][_leaf_at(goes, name, word)]
+        ends.extend([word + own for own in words_in(leaf)])
+        for called, own in calls_in(leaf):
+            ask = (called, word + own)
+            if ask not in met:
+                met[ask] = True
+                waiting.append(ask)
+    beginnings = {word[:many] for word in ends for many in range(len(word) + 1)}
+    return tuple(sorted(sorted(beginnings), key=len))
+
+
+def free_words(program, turns):
+    """The words of TURNS, shorter ones first."""
+    rules = frozen(program)
+    return _free_words(rules, _goes(rules, frozen(turns)))
+
+
+def free_meaning(program, turns):
+    """The free MEANING of TURNS."""
+    rules = frozen(program)
+    goes = _goes(rules, frozen(turns))
+    words = _free_words(rules, goes)
+    places = {word: place for place, word in enumerate(words)}
+    used = [step for rule in rules for leaf in leaves_of(rule) for word in words_in(leaf) for step in word]
+    steps = [
+        tuple([places.get(word + (step,), len(words)) for word in words] + [len(words)])
+        for step in range(max(used, default=-1) + 1)]
+    held = _held(rules, goes, words)
+    nowhere = (False,) * (len(words) + 1)
+    tests = [held.get(test, nowhere) for test in range(max(held, default=-1) + 1)]
+    return len(words) + 1, tuple(steps), tuple(tests)
+
+
+def _held(rules, goes, words):
+    """For each TEST of rules: the tuple with, for each word and for the last thing, whether it holds there."""
+    held = {}
+    for name, rule in enumerate(rules):
+        sides = [dict(way_to(rule, leaf)) for leaf in range(len(leaves_of(rule)))]
+        gone = [sides[_leaf_at(goes, name, word)] for word in words] + [sides[goes[1][name]]]
+        for test in tests_of(rule):
+            held[test] = tuple([side.get(test, False) for side in gone])
+    return held
+
+
+def answer_shape(program, meaning, start):
+    """The SHAPE of the answer of NAME 0 at the thing start, however great it is."""
+    rules, sense = asked_of(program, meaning, 0, start)
+    return _shape_told(rules, sense, start)[0]
+
+
+def _shape_told(rules, sense, start):
+    """The pair of the SHAPE of the answer of NAME 0 at start, and of a dict with the knot of the answer of
+    each ASK that can be come to from there."""
+    numbers = {}
+    told = numbered(rules, sense, [(0, start)], numbers)
+    if (0, start) not in told:
+        raise CanNot()
+    # They were numbered in the order in which they stand.
+    parts = [() if key[0] == "thing" else key[1] for key in numbers]
+    knots = _knots_of(parts, told[(0, start)])
+    shape = [tuple(sorted({knots[part] for part in parts[number]})) for number in knots]
+    return tuple(shape), {ask: knots[told[ask]] for ask in told}
+
+
+def _knots_of(parts, top):
+    """For each part of top, by its number, its knot: behind its own parts, from left to right; parts has those
+    of each number."""
+    knots, waiting = {}, [top]
+    while waiting:
+        number = waiting[-1]
+        lacking = [part for part in parts[number] if part not in knots]
+        if lacking:
+            waiting.append(lacking[0])
+        else:
+            knots.setdefault(number, len(knots))
+            waiting.pop()
+    return knots
+
+
+def tree_paper(program, depth):
+    """A TREE PAPER of program for depth."""
+    rules = frozen(program)
+    if can_loop(rules):
+        raise CanNot()
+    branching = shortest_branching(rules)
+    turns = branching_turns(rules, branching, depth)
+    places = {word: place for place, word in enumerate(free_words(rules, turns))}
+    shape, knots = _shape_told(rules, free_meaning(rules, turns), 0)
+    return turns, grown_tree(shape, branching, lambda name, word: knots[(name, places[word])], depth)
+
+
+def _are_turns(rules, thing):
+    """True if thing is TURNS."""
+    if not isinstance(thing, tuple) or not all(_is_turn(rules, turn) for turn in thing):
+        return False
+    pairs = [turn[:2] for turn in thing]
+    return all(one < other for one, other in zip(pairs, pairs[1:]))
+
+
+def _is_turn(rules, thing):
+    """True if thing can be one of TURNS."""
+    if not is_tuple(thing, 3) or not is_natural(thing[0]) or not is_word(thing[1]) or not is_natural(thing[2]):
+        return False
+    return thing[0] < len(rules) and thing[2] < len(leaves_of(rules[thing[0]]))
+
+
+def is_tree_paper(program, depth, thing):
+    """True if thing is a TREE PAPER of program for depth."""
+    rules = frozen(program)
+    if not is_tuple(thing, 2) or not _are_turns(rules, thing[0]):
+        return False
+    return is_tree(_shape_told(rules, free_meaning(rules, thing[0]), 0)[0], depth, thing[1])
+
+
+def fails(program, loops, turns):
+    """True if the run of loops in the free MEANING from thing 0 does not stop with the answer of NAME 0."""
+    rules = frozen(program)
+    meaning = free_meaning(rules, turns)
+    end = end_of(loops, meaning, 0)
+    return end != ("stop", answer(rules, meaning, 0, 0))
