@@ -1,6 +1,6 @@
 """PROGRAMS by chance whose COMPONENTS are paths, rows and still NAMES, for the tests of LOOPS."""
 
-from tests.support import word_by_chance
+from tests.support import meaning_by_chance, word_by_chance
 
 MAKERS = 10
 
@@ -62,18 +62,40 @@ def path_program(dice, most_names=3, most_still=2):
     return tuple(rules)
 
 
-def row_rules(dice, home, lower, tests, foreign=2, most_steps=3):
-    """The RULES of a COMPONENT home that keeps to a row, each with one leaf of own calls; it calls NAMES of lower, too."""
+def row_rules(dice, home, lower, tests, foreign=2, most_steps=3, plain=True):
+    """The RULES of a COMPONENT home that keeps to a row; it calls NAMES of lower, too. If it is to be plain, each
+    has one leaf of own calls, else there may be more."""
     row = tuple(dice.randrange(2) for _ in range(dice.randint(1, 4)))
     places = [dice.randrange(len(row)) for _ in home]
     rules = []
     for number, name in enumerate(home):
-        own = []
-        for other in [(number + 1) % len(home)] + [dice.randrange(len(home)) for _ in range(dice.randint(0, 2))]:
-            sizes = [size for size in range(most_steps + 1) if (places[number] + size - places[other]) % len(row) == 0]
-            if sizes:
-                size = dice.choice(sizes)
-                own.append(("call", home[other], tuple((row * 9)[places[number]:places[number] + size])))
+        def own_calls(others):
+            return [call for other in others for call in row_calls(dice, row, places[number], places[other], home[other], most_steps)]
+        first = [(number + 1) % len(home)]
+        own = own_calls(first + [dice.randrange(len(home)) for _ in range(dice.randint(0, 2))])
+        leaves = [leaf_by_chance(dice, own + foreign_calls(dice, lower, foreign))]
+        for _ in range(dice.randint(1 if number == 0 else 0, 2)):
+            more = own_calls([dice.randrange(len(home))]) if not plain and leaves[1:] else []
+            leaves.append(leaf_by_chance(dice, more + foreign_calls(dice, lower, foreign)))
+        dice.shuffle(leaves)
+        rules.append(rule_of(dice, leaves, tests))
+    return rules
+
+
+def row_calls(dice, row, place, end, name, most_steps):
+    """A call of name from this place of the row to that end, if one of at most so many STEPS keeps to it."""
+    sizes = [size for size in range(most_steps + 1) if (place + size - end) % len(row) == 0]
+    if not sizes:
+        return []
+    return [("call", name, (row * 9)[place:place + dice.choice(sizes)])]
+
+
+def wide_rules(dice, home, lower, tests, foreign=1):
+    """The RULES of a plain wide COMPONENT home, whose WORDS are drawn; it calls NAMES of lower, too."""
+    rules = []
+    for number, name in enumerate(home):
+        own = [("call", home[(number + 1) % len(home)], word_by_chance(dice, 2))]
+        own += [("call", dice.choice(home), word_by_chance(dice, 3)) for _ in range(dice.randint(0, 2))]
         leaves = [leaf_by_chance(dice, own + foreign_calls(dice, lower, foreign))]
         for _ in range(dice.randint(1 if number == 0 else 0, 2)):
             leaves.append(leaf_by_chance(dice, foreign_calls(dice, lower, foreign)))
@@ -82,8 +104,8 @@ def row_rules(dice, home, lower, tests, foreign=2, most_steps=3):
     return rules
 
 
-def nest_program(dice, most_foreign=1):
-    """RULES that may be a PROGRAM of COMPONENTS within one another: paths, rows and still NAMES."""
+def nest_program(dice, most_foreign=1, kinds=(path_rules, row_rules, row_rules)):
+    """RULES that may be a PROGRAM of COMPONENTS within one another: of these kinds, and still NAMES."""
     tests, names, homes = dice.sample(range(20), 20), 0, []
     for _ in range(dice.randint(1, 3)):
         many = dice.choice((1, 1, 2))
@@ -92,6 +114,16 @@ def nest_program(dice, most_foreign=1):
     rules = []
     for place, home in enumerate(homes):
         lower = [name for other in homes[place + 1:] for name in other]
-        kind = dice.choice((path_rules, row_rules, row_rules, still_rules)) if len(home) == 1 else dice.choice((path_rules, row_rules))
-        rules += kind(dice, home, lower, tests, most_foreign) if kind is not still_rules else kind(dice, lower, tests, most_foreign)
+        if len(home) == 1 and dice.random() < 0.25:
+            rules += still_rules(dice, lower, tests, most_foreign)
+        else:
+            rules += dice.choice(kinds)(dice, home, lower, tests, most_foreign)
     return tuple(rules)
+
+
+def meanings_by_chance(dice, tests=20):
+    """Two MEANINGS of two STEPS: one whose things go on to a last one, at which many TESTS hold, one that is drawn."""
+    many = dice.choice((1, 3, 5, 8))
+    steps = tuple(tuple(min(x + size, many - 1) for x in range(many)) for size in (1, dice.choice((1, 2))))
+    held = tuple(tuple(dice.random() < 0.3 or x == many - 1 and dice.random() < 0.8 for x in range(many)) for _ in range(tests))
+    return (many, steps, held), meaning_by_chance(dice, 5, 2, tests)

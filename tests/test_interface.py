@@ -43,9 +43,27 @@ INTERFACE = {
     "paths": (
         "along_path(program)", "chain(program, meaning, name, start)", "chain_word(program, meaning, name, start)",
         "is_chain(program, meaning, thing)", "chain_lengths(program, meaning, name)", "path_loops(program)"),
+    "sweeps": (
+        "reach(program, name)", "first_marks(program, name)", "asked_with(program, name, marks, taken)",
+        "next_marks(program, name, marks, taken)", "marks_row(program, name, row)", "marks_that_come(program, name)",
+        "most_marked(program, name)", "way_to_marks(program, name, marks)",
+        "is_way_to_marks(program, name, marks, thing)", "history_along(program, meaning, name, start, many)",
+        "sweep(program, meaning, name, start)", "places_asked(program, meaning, name, start)",
+        "last_place(program, meaning, name, start)"),
+    "rowloops": (
+        "along_row(program)", "row_reach(program)", "row_span(program)", "row_loops(program)", "row_cells(program)",
+        "row_flags(program)"),
+    "nests": (
+        "nest_of(program)", "nest_depth(program)", "loops_of(program)", "slips(program, loops, meaning)",
+        "is_slip(program, loops, thing)"),
+    "trees": (
+        "ends_by(program)", "free_words(program, turns)", "free_meaning(program, turns)",
+        "answer_shape(program, meaning, start)", "tree_paper(program, depth)", "is_tree_paper(program, depth, thing)",
+        "fails(program, loops, turns)"),
 }
 MANY = {
-    "words": 11, "terms": 8, "programs": 16, "rows": 9, "meanings": 12, "webs": 9, "pebbles": 12, "loops": 7, "paths": 6}
+    "words": 11, "terms": 8, "programs": 16, "rows": 9, "meanings": 12, "webs": 9, "pebbles": 12, "loops": 7, "paths": 6,
+    "sweeps": 13, "rowloops": 6, "nests": 5, "trees": 7}
 
 
 class InterfaceTest(unittest.TestCase):

@@ -28,7 +28,7 @@ class RowCode:
         self.place_of = {name: place for name, place in zip(names, places)}
         self.order = [name for name in still_order(sheet.rules) if name in names]
         words = [word for name in names for calls in sheet.table[name] for called, word in calls]
-        self.span = range(max([len(word) for word in words]) + 1)
+        self.span = list(range(max([len(word) for word in words]) + 1))
         self.turn = len(self.row) * ((len(self.span) - 1) // len(self.row) + 1)
         self.take_frame()
         self.next_s = sheet.room()
