@@ -148,7 +148,7 @@ class ShapeOfLoopsTest(unittest.TestCase):
                 ("ask", 0, 0, 0, 1), ("ask", 0, 0, 0), ("seen", 2, 0, 0), ("seen", 0, 1, 0), ("seen", 0, 0, 1),
                 ("seen", 0, 0, 0, 0), ("seen", 0, 0), ("copy", 0, 0), ("flag", 0, True), (), 0, ("seen", 0, 0, 0, 1)):
             self.assertIs(loops.is_loops((3, 2, (((), end),))), False, end)
-        for thing in ((0, 0, STOP[2]), (1, 0, ()), (1, 0), (1, 0, STOP[2], ()), (1, 0, (((),),)), (1, 0, (((), ("stop", 0), 0),))):
+        for thing in ((0, 0, STOP[2]), (0, 0, (((), ("go", 0)),)), (1, 0, ()), (1, 0), (1, 0, STOP[2], ()), (1, 0, (((),),)), (1, 0, (((), ("stop", 0), 0),))):
             self.assertIs(loops.is_loops(thing), False, thing)
 
 
@@ -257,6 +257,7 @@ class RunsTest(unittest.TestCase):
                 self.assertEqual(caught.exception.place, start)
             with self.assertRaises(Unfit):
                 function((1, 0, (((), ("stop", 0)), ((("step", 0, 1),), ("go", 0)))), LINE, 0, *more)
+            function(STOP, (1, (), ()), 0, *more)
 
     def test_too_great(self):
         doubling = tuple(("make", 0, 0, (0, 0)) for _ in range(9))

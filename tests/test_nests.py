@@ -233,6 +233,12 @@ class SlipsTest(unittest.TestCase):
         for own, meaning in ((STOP_NOW, (3, (), LINE[2])), (STOP_NOW, (3, LINE[1], ())), (stepping, LINE), (asking, LINE)):
             with self.assertRaises(Unfit):
                 told(nests.slips, WALK, own, meaning)
+        # None of these ends, and the answers of those would be too great.
+        with self.assertRaises(Unfit):
+            told(nests.slips, WALK, stepping, (2, ((1, 0),), ((False, False),)))
+        great = (8, ((1, 2, 3, 4, 5, 6, 7, 7),), ((False,) * 7 + (True,),))
+        with self.assertRaises(Unfit):
+            told(nests.slips, DOUBLING, stepping, great)
 
     def test_too_much(self):
         great = (8, ((1, 2, 3, 4, 5, 6, 7, 7),), ((False,) * 7 + (True,),))

@@ -122,6 +122,15 @@ class ChainsTest(unittest.TestCase):
         self.assertIs(paths.is_chain(TRAIL, ROUND, ((0, 0), (1, 1), (0, 0))), False)
         self.assertIs(paths.is_chain(TRAIL, ROUND, ((0, 0),)), False)
 
+    def test_chains_beyond_the_bounds(self):
+        down = (("ask", 0, REST, ("leaf", ("make", 1, (("call", 0, (0,)), ("at", ()))))),)
+        far = (500, (tuple(min(x + 1, 499) for x in range(500)),), ((False,) * 499 + (True,),))
+        asks = tuple((0, x) for x in range(500))
+        self.assertIs(paths.is_chain(down, far, asks), True)
+        self.assertIs(paths.is_chain(down, far, asks[:-1]), False)
+        self.assertEqual(paths.chain(down, far, 0, 0), asks)
+        self.assertEqual(paths.chain_lengths(down, far, 0), tuple(range(499, -1, -1)))
+
     def test_errors_in_their_order(self):
         program = TRAIL + (REST,)
         short = (5, LANE[1][:1], LANE[2])

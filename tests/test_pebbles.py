@@ -417,6 +417,9 @@ class TreesTest(unittest.TestCase):
         for thing in (((), tree[1]), (tree[0], tree[1][:1]), (tree[0], tree[1] + tree[1][:1]), tree[:1], tree + ((),),
                       ((7,), ()), ((6,), (((2,),), ((5, 3), ())))):
             self.assertIs(pebbles.is_tree(FULL, 1, thing), False, thing)
+        self.assertIs(pebbles.is_tree(FULL, 0, ((6,), ())), True)
+        for knot in (7, 8, 10 ** 20):
+            self.assertIs(pebbles.is_tree(FULL, 0, ((knot,), ())), False)
         shared = ((0,), ())
         for _ in range(45):
             shared = ((0,), (shared, shared))

@@ -2,12 +2,13 @@
 
 import itertools
 import unittest
+import unittest.mock
 
 from tests import plain
 from tests.nests_by_chance import nest_program, path_rules, row_rules, wide_rules
 from tests.support import chance, meaning_by_chance, odd_things, rules_by_chance, told, variants, word_by_chance
 from tests.test_loops import loops_by_chance
-from unwound import trees
+from unwound import branching, trees
 from unwound.errors import CanNot, NoPlace, TooMuch, Unfit
 from unwound.loops import end_of
 from unwound.meanings import answer, answer_parts, is_for, is_meaning
@@ -245,6 +246,20 @@ class PapersTest(unittest.TestCase):
                 self.assertIs(trees.is_tree_paper(program, depth + 1, paper), False)
                 if depth:
                     self.assertIs(trees.is_tree_paper(program, depth - 1, paper), False)
+
+    def test_papers_from_forks_alone(self):
+        with unittest.mock.patch.object(branching, "MOST_CALLS", 0):
+            for program in BARRED[:30]:
+                for depth in (1, 2):
+                    paper = trees.tree_paper(program, depth)
+                    self.check_paper(program, depth, paper)
+                    self.assertIs(trees.is_tree_paper(program, depth, paper), True)
+
+    def test_papers_are_short(self):
+        for program, one in ((BOTH_WAYS, 1), (TWO_NAMES, 3), (BEGUN, 3), (TWINS, 3), (NESTED, 1)):
+            many = [len(trees.tree_paper(program, depth)[0]) for depth in range(4)]
+            self.assertLessEqual(many[3] - many[0], 7 * one, program)
+        self.assertEqual([len(trees.tree_paper(BOTH_WAYS, depth)[0]) for depth in range(4)], [0, 1, 3, 7])
 
     def test_no_play_with_so_few_cells(self):
         for program in (BOTH_WAYS, TWO_NAMES, BEGUN):

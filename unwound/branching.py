@@ -17,9 +17,9 @@ MOST_CALLS = 8
 
 def shortest_branching(rules):
     """A branching of the PROGRAM rules, one of COMPONENTS of which at least one has no ROWS, with few calls."""
-    ways, found = _ways_out(rules), []
+    table, ways, found = own_table(rules), _ways_out(rules), []
     for home in barred(rules):
-        owns = {name: own_calls_of(own_table(rules), name)[1] for name in home}
+        owns = {name: own_calls_of(table, name)[1] for name in home}
         for near in home:
             pairs = _parting_pairs(_short_walks(owns, near))
             found.extend([(len(one) + len(other), (near, ways[near], one, other)) for one, other in pairs])

@@ -28,9 +28,7 @@ class PathCode:
 
     def written(self):
         """The pair of the cell in which the thing is to lie and of the first block."""
-        for name in self.home:
-            self.makings[name] = rule_code(
-                self.sheet, name, self.z, lambda number: self._making_code(name, number))
+        self.makings = {name: self._makings_code(name) for name in self.home}
         for one, other in self.pairs:
             self.sheet.fill(self.pairs[(one, other)], self._pair_code(one, other))
         self.sheet.fill(self.next_s, number_code(self.sheet, self.at_s, [self._s_code(name) for name in self.home]))
@@ -66,8 +64,12 @@ class PathCode:
             return self.makings[other]
         return self.sheet.block(steps_deeds(self.z, call[1]), ("go", self.pairs[(one, call[0])]))
 
+    def _makings_code(self, name):
+        """The block from which the answer at z is made while z is at name, and s goes on."""
+        return rule_code(self.sheet, name, self.z, lambda number: self._making_code(name, number))
+
     def _making_code(self, name, number):
-        """The block from which the answer at z is made by the leaf number of name, and s goes on."""
+        """The block from which it is made by the leaf number of name."""
         own_cells = {call: self.made for call in self.sheet.table[name][number]}
         spot = (self.z, self.for_parts, own_cells)
         return term_code(

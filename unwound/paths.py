@@ -1,6 +1,6 @@
 """PROGRAMS along a path, CHAINS of own calls by a MEANING, LOOPS along a path [12]."""
 
-from unwound.common import frozen, require_place
+from unwound.common import frozen
 from unwound.errors import CanNot, Unfit
 from unwound.meanings import asked_of, is_ask, is_for, leaf_number, thing_at
 from unwound.programs import homes_of, kind_in, kind_of, own_table, reached
@@ -73,7 +73,6 @@ def chain_lengths(program, meaning, name):
     rules, sense = frozen(program), frozen(meaning)
     if not is_for(sense, rules):
         raise Unfit()
-    require_place(name, len(rules))
     if kind_of(rules, name) != "path":
         raise Unfit()
     found = [_links(rules, sense, name, x) for x in range(sense[0])]

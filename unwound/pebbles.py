@@ -168,8 +168,8 @@ def _searched_sparing(shape, many):
 
 
 def _still_needed(needs, done):
-    """Of the knots in done those that are parts of knots that are not, as a number; the top always."""
-    needed = 1 << len(needs) - 1
+    """Of the knots in done those that are parts of knots that are not, as a number."""
+    needed = 0
     for knot, parts in enumerate(needs):
         if not done >> knot & 1:
             needed = needed | parts

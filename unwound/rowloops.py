@@ -2,7 +2,7 @@
 
 from unwound.common import frozen
 from unwound.errors import TooMuch, Unfit
-from unwound.programs import homes_of, kind_in, leaves_of, own_table, reached
+from unwound.programs import homes_of, leaves_of, own_table, reached
 from unwound.routines import row_loops_for
 from unwound.rows import has_rows
 from unwound.terms import parts_in_order
@@ -14,9 +14,9 @@ def along_row(program):
     """True if program goes along one row."""
     rules = frozen(program)
     home, table = homes_of(rules)[0], own_table(rules)
-    if reached(rules) != home or kind_in(table, home) == "still":
+    if reached(rules) != home or not all(len([calls for calls in table[name] if calls]) == 1 for name in home):
         return False
-    return all(len([calls for calls in table[name] if calls]) == 1 for name in home) and has_rows(table, home)
+    return has_rows(table, home)
 
 
 def _along(program):

@@ -205,10 +205,10 @@ def _swept(program, meaning, name, start):
     marks, x, swept = _first(line, name), start, []
     met = set()
     while any(marks):
-        key = (marks, x, len(swept) % len(line[0][1]))
-        if key in met:
+        # MARKS tell where on the row of ROWS they are.
+        if (marks, x) in met:
             raise CanNot()
-        met.add(key)
+        met.add((marks, x))
         taken = _taken_at(rules, sense, line, x)
         x = thing_at(sense, x, _step_at(line, name, len(swept)))
         swept.append((marks, _asked(line, marks, taken)))
