@@ -255,6 +255,20 @@ class PapersTest(unittest.TestCase):
                     self.check_paper(program, depth, paper)
                     self.assertIs(trees.is_tree_paper(program, depth, paper), True)
 
+    def test_answers_that_can_be_told_are_taken(self):
+        program = nest_program(chance(11781), 2, (wide_rules, wide_rules, path_rules, row_rules))
+        first = branching.shortest_branchings(program)[0]
+        turns = branching.branching_turns(program, first, 3)
+        self.assertGreater(answer_parts(program, trees.free_meaning(program, turns), 0, 0), 2000)
+        paper = trees.tree_paper(program, 3)
+        self.check_paper(program, 3, paper)
+        answer(program, trees.free_meaning(program, paper[0]), 0, 0)
+        # If there is none, the paper is one all the same.
+        with unittest.mock.patch.object(branching, "MOST_BRANCHINGS", 1):
+            paper = trees.tree_paper(program, 3)
+            self.assertEqual(paper[0], turns)
+            self.check_paper(program, 3, paper)
+
     def test_papers_are_short(self):
         for program, one in ((BOTH_WAYS, 1), (TWO_NAMES, 3), (BEGUN, 3), (TWINS, 3), (NESTED, 1)):
             many = [len(trees.tree_paper(program, depth)[0]) for depth in range(4)]

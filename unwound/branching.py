@@ -13,10 +13,11 @@ from unwound.words import first_apart
 
 MOST_WALKS = 40
 MOST_CALLS = 8
+MOST_BRANCHINGS = 12
 
 
-def shortest_branching(rules):
-    """A branching of the PROGRAM rules, one of COMPONENTS of which at least one has no ROWS, with few calls."""
+def shortest_branchings(rules):
+    """The list of some branchings of the PROGRAM rules, those with few calls first; a COMPONENT has no ROWS."""
     table, ways, found = own_table(rules), _ways_out(rules), []
     for home in barred(rules):
         owns = {name: own_calls_of(table, name)[1] for name in home}
@@ -26,7 +27,7 @@ def shortest_branching(rules):
         near, one, other = fork_of(rules, home[0])
         # Of one length, and unlike: so neither begins with the other one.
         found.append((2 * (len(one) + len(other)), (near, ways[near], one + other, other + one)))
-    return min(found)[1]
+    return [branching for _, branching in sorted(found)[:MOST_BRANCHINGS]]
 
 
 def own_calls_of(table, name):

@@ -4,8 +4,8 @@ Asking by TURNS is told by pairs (name, word): the NAME is asked at the WORD.
 """
 
 from unwound.common import frozen, is_natural, is_tuple
-from unwound.errors import CanNot
-from unwound.branching import branching_turns, grown_tree, shortest_branching
+from unwound.errors import CanNot, TooMuch
+from unwound.branching import branching_turns, grown_tree, shortest_branchings
 from unwound.loops import end_of
 from unwound.meanings import answer, asked_of, numbered
 from unwound.pebbles import is_tree
@@ -136,11 +136,23 @@ def tree_paper(program, depth):
     rules = frozen(program)
     if can_loop(rules):
         raise CanNot()
-    branching = shortest_branching(rules)
-    turns = branching_turns(rules, branching, depth)
+    branching, turns = _branching_told(rules, depth)
     places = {word: place for place, word in enumerate(free_words(rules, turns))}
     shape, knots = _shape_told(rules, free_meaning(rules, turns), 0)
     return turns, grown_tree(shape, branching, lambda name, word: knots[(name, places[word])], depth)
+
+
+def _branching_told(rules, depth):
+    """The pair of a branching and of its TURNS: the first one by which the answer is not too great to be told,
+    so that it can be compared with what LOOPS make; if there is none, the first one of all."""
+    pairs = [(branching, branching_turns(rules, branching, depth)) for branching in shortest_branchings(rules)]
+    for branching, turns in pairs:
+        try:
+            answer(rules, free_meaning(rules, turns), 0, 0)
+        except TooMuch:
+            continue
+        return branching, turns
+    return pairs[0]
 
 
 def _are_turns(rules, thing):
