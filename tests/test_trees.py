@@ -257,14 +257,16 @@ class PapersTest(unittest.TestCase):
 
     def test_answers_that_can_be_told_are_taken(self):
         program = nest_program(chance(11781), 2, (wide_rules, wide_rules, path_rules, row_rules))
-        first = branching.shortest_branchings(program)[0]
-        turns = branching.branching_turns(program, first, 3)
+        search = branching.Branchings(program, barred(program))
+        sizes = [search.of_size(size) for size in range(2, 2 * branching.MOST_CALLS + 2)]
+        first = [own for of_size in sizes for own in of_size][0]
+        turns = search.turns(first, 3)
         self.assertGreater(answer_parts(program, trees.free_meaning(program, turns), 0, 0), 2000)
         paper = trees.tree_paper(program, 3)
         self.check_paper(program, 3, paper)
         answer(program, trees.free_meaning(program, paper[0]), 0, 0)
         # If there is none, the paper is one all the same.
-        with unittest.mock.patch.object(branching, "MOST_BRANCHINGS", 1):
+        with unittest.mock.patch.object(trees, "MOST_BRANCHINGS", 1):
             paper = trees.tree_paper(program, 3)
             self.assertEqual(paper[0], turns)
             self.check_paper(program, 3, paper)
@@ -274,6 +276,14 @@ class PapersTest(unittest.TestCase):
             many = [len(trees.tree_paper(program, depth)[0]) for depth in range(4)]
             self.assertLessEqual(many[3] - many[0], 7 * one, program)
         self.assertEqual([len(trees.tree_paper(BOTH_WAYS, depth)[0]) for depth in range(4)], [0, 1, 3, 7])
+
+    def test_short_walks_alone_are_compared(self):
+        # The first two that part are taken; no further ones are told.
+        for program, most in ((BOTH_WAYS, 1), (TWO_NAMES, 3), (BEGUN, 10)):
+            for depth in range(4):
+                with unittest.mock.patch.object(branching, "first_apart", wraps=branching.first_apart) as compared:
+                    trees.tree_paper(program, depth)
+                self.assertLessEqual(compared.call_count, most, program)
 
     def test_no_play_with_so_few_cells(self):
         for program in (BOTH_WAYS, TWO_NAMES, BEGUN):

@@ -7,48 +7,89 @@ thing. So the answers there have no part in common.
 """
 
 from unwound.programs import leaves_of, own_table
-from unwound.rows import barred, fork_of, walk_word
+from unwound.rows import fork_of, walk_word
 from unwound.terms import calls_in
 from unwound.words import first_apart
 
 MOST_WALKS = 40
 MOST_CALLS = 8
-MOST_BRANCHINGS = 12
 
 
-def shortest_branchings(rules):
-    """The list of some branchings of the PROGRAM rules, those with few calls first; a COMPONENT has no ROWS."""
-    table, ways, found = own_table(rules), _ways_out(rules), []
-    for home in barred(rules):
-        owns = {name: own_calls_of(table, name)[1] for name in home}
-        for near in home:
-            pairs = _parting_pairs(_short_walks(owns, near))
-            found.extend([(len(one) + len(other), (near, ways[near], one, other)) for one, other in pairs])
-        near, one, other = fork_of(rules, home[0])
+class Branchings:
+    """The branchings of a PROGRAM whose COMPONENTS homes are plain and have no ROWS.
+
+    Closed WALKS are told when they are asked for: most often the shortest ones are all that is needed.
+    """
+
+    def __init__(self, rules, homes):
+        self.rules = rules
+        self.homes = homes
+        self.table = own_table(rules)
+        self.ways = _ways_out(rules)
+        self.owns = {name: own_calls_of(self.table, name)[1] for home in homes for name in home}
+        self.rows = {near: [((), near, ())] for near in self.owns}
+        self.closed = {near: [] for near in self.owns}
+
+    def of_size(self, many):
+        """The list of those whose two WALKS have so many calls together; of a size that is too great for the
+        WALKS that are told, of those that come of FORKS."""
+        if many > 2 * MOST_CALLS:
+            return [self.by_fork(home) for home in self.homes]
+        return [
+            (near, self.ways[near], one, other) for near in sorted(self.owns)
+            for one, other in self.parting_pairs(near, many)]
+
+    def parting_pairs(self, near, many):
+        """The list of the pairs of closed WALKS of near with so many calls of which neither has a WORD that begins
+        with that of the other."""
+        self.lengthen(near, many - 1)
+        walks, pairs = self.closed[near], []
+        for place, (one, word) in enumerate(walks):
+            for other, after in walks[place + 1:]:
+                if len(one) + len(other) == many and first_apart(word, after) is not None:
+                    pairs.append((one, other))
+        return pairs
+
+    def lengthen(self, near, many):
+        """Tells closed WALKS of near of at most so many calls, if they are not told."""
+        row = self.rows[near]
+        while len(row[0][0]) < min(many, MOST_CALLS) and len(self.closed[near]) < MOST_WALKS:
+            row = [
+                (walk + (call,), call[0], word + call[1])
+                for walk, name, word in row for call in self.owns[name]][:MOST_WALKS]
+            self.closed[near] = self.closed[near] + [(walk, word) for walk, name, word in row if name == near]
+        self.rows[near] = row
+
+    def by_fork(self, home):
+        """One that comes of a FORK of the COMPONENT home."""
+        near, one, other = fork_of(self.rules, home[0])
         # Of one length, and unlike: so neither begins with the other one.
-        found.append((2 * (len(one) + len(other)), (near, ways[near], one + other, other + one)))
-    return [branching for _, branching in sorted(found)[:MOST_BRANCHINGS]]
+        return near, self.ways[near], one + other, other + one
+
+    def turns(self, branching, depth):
+        """The TURNS by which 0 comes to the NAME of branching, and this asks along both WALKS, so many times over."""
+        near, way, one, other = branching
+        turns, name, word = {}, 0, ()
+        for leaf, call in way:
+            turns[(name, word)] = leaf
+            name, word = call[0], word + call[1]
+        row = [word]
+        for _ in range(depth):
+            row = [self.turned_along(turns, near, begun, walk) for begun in row for walk in (one, other)]
+        return tuple(sorted([ask + (turns[ask],) for ask in turns]))
+
+    def turned_along(self, turns, near, begun, walk):
+        """Puts into turns that near, asked at the WORD begun, asks along walk; returns the WORD at its end."""
+        name, word = near, begun
+        for call in walk:
+            turns[(name, word)] = own_calls_of(self.table, name)[0]
+            name, word = call[0], word + call[1]
+        return word
 
 
 def own_calls_of(table, name):
     """The pair of the place of the leaf of name with own calls, and of these; table has the own calls."""
     return [(place, calls) for place, calls in enumerate(table[name]) if calls][0]
-
-
-def _short_walks(owns, near):
-    """The list of some closed WALKS of near, those with few calls; owns has the own calls of each NAME."""
-    closed, row = [], [((), near)]
-    for _ in range(MOST_CALLS):
-        row = [(walk + (call,), call[0]) for walk, name in row for call in owns[name]][:MOST_WALKS]
-        closed.extend([walk for walk, name in row if name == near])
-    return closed[:MOST_WALKS]
-
-
-def _parting_pairs(walks):
-    """The list of the pairs of walks of which neither has a WORD that begins with that of the other."""
-    return [
-        (one, other) for place, one in enumerate(walks) for other in walks[place + 1:]
-        if first_apart(walk_word(one), walk_word(other)) is not None]
 
 
 def _ways_out(rules):
@@ -64,28 +105,6 @@ def _ways_out(rules):
                         later.append(call[0])
         row = later
     return ways
-
-
-def branching_turns(rules, branching, depth):
-    """The TURNS by which 0 comes to the NAME of branching, and this asks along both WALKS, so many times over."""
-    near, way, one, other = branching
-    table, turns, name, word = own_table(rules), {}, 0, ()
-    for leaf, call in way:
-        turns[(name, word)] = leaf
-        name, word = call[0], word + call[1]
-    row = [word]
-    for _ in range(depth):
-        row = [_turned_along(table, turns, near, begun, walk) for begun in row for walk in (one, other)]
-    return tuple(sorted([ask + (turns[ask],) for ask in turns]))
-
-
-def _turned_along(table, turns, near, begun, walk):
-    """Puts into turns that near, asked at the WORD begun, asks along walk; returns the WORD at its end."""
-    name, word = near, begun
-    for call in walk:
-        turns[(name, word)] = own_calls_of(table, name)[0]
-        name, word = call[0], word + call[1]
-    return word
 
 
 def grown_tree(shape, branching, knot_of, depth):

@@ -174,6 +174,15 @@ def barred(program):
     return [home for home in wide_reached(rules, table) if not has_rows(table, home)]
 
 
+def barred_plain(rules):
+    """The same, for a PROGRAM whose wide COMPONENTS that 0 comes to are plain."""
+    table = own_table(rules)
+    homes = wide_reached(rules, table)
+    if not all(is_plain_in(table, home) for home in homes):
+        raise Unfit()
+    return [home for home in homes if not has_rows(table, home)]
+
+
 def has_rows(table, home):
     """True if the COMPONENT home, which is not still, has ROWS; table has the own calls."""
     try:
@@ -185,8 +194,4 @@ def has_rows(table, home):
 
 def can_loop(program):
     """True if some LOOPS do program."""
-    rules = frozen(program)
-    table = own_table(rules)
-    if not all(is_plain_in(table, home) for home in wide_reached(rules, table)):
-        raise Unfit()
-    return not barred(rules)
+    return not barred_plain(frozen(program))

@@ -4,15 +4,17 @@ Asking by TURNS is told by pairs (name, word): the NAME is asked at the WORD.
 """
 
 from unwound.common import frozen, is_natural, is_tuple
-from unwound.errors import CanNot, TooMuch
-from unwound.branching import branching_turns, grown_tree, shortest_branchings
+from unwound.branching import MOST_CALLS, Branchings, grown_tree
+from unwound.errors import CanNot
 from unwound.loops import end_of
-from unwound.meanings import answer, asked_of, numbered
+from unwound.meanings import MOST_MAKINGS_WITHIN, MOST_PARTS, answer, asked_of, numbered
 from unwound.pebbles import is_tree
 from unwound.programs import leaves_of, tests_of, way_to
-from unwound.rows import can_loop
-from unwound.terms import calls_in, words_in
+from unwound.rows import barred_plain
+from unwound.terms import calls_in, folded, words_in
 from unwound.words import is_word
+
+MOST_BRANCHINGS = 12
 
 
 def ends_by(program):
@@ -99,21 +101,17 @@ def _held(rules, goes, words):
 def answer_shape(program, meaning, start):
     """The SHAPE of the answer of NAME 0 at the thing start, however great it is."""
     rules, sense = asked_of(program, meaning, 0, start)
-    return _shape_told(rules, sense, start)[0]
-
-
-def _shape_told(rules, sense, start):
-    """The pair of the SHAPE of the answer of NAME 0 at start, and of a dict with the knot of the answer of
-    each ASK that can be come to from there."""
     numbers = {}
     told = numbered(rules, sense, [(0, start)], numbers)
     if (0, start) not in told:
         raise CanNot()
-    # They were numbered in the order in which they stand.
-    parts = [() if key[0] == "thing" else key[1] for key in numbers]
-    knots = _knots_of(parts, told[(0, start)])
-    shape = [tuple(sorted({knots[part] for part in parts[number]})) for number in knots]
-    return tuple(shape), {ask: knots[told[ask]] for ask in told}
+    parts = _parts_of(numbers)
+    return _shape_of(parts, _knots_of(parts, told[(0, start)]))
+
+
+def _parts_of(numbers):
+    """For each number, in order: the numbers of the parts of the VALUE that has it in numbers, as they stand."""
+    return [() if key[0] == "thing" else key[1] for key in numbers]
 
 
 def _knots_of(parts, top):
@@ -131,28 +129,82 @@ def _knots_of(parts, top):
     return knots
 
 
+def _shape_of(parts, knots):
+    """The SHAPE of what has these knots."""
+    return tuple([tuple(sorted({knots[part] for part in parts[number]})) for number in knots])
+
+
+def _numbered_by_turns(rules, goes, numbers):
+    """For each pair (name, word) that is asked by TURNS: the number that its answer has in numbers.
+
+    In the free MEANING each WORD at which something is asked, or of a thing, is a thing of its own.
+    """
+    leaves = [[(leaf, calls_in(leaf)) for leaf in leaves_of(rule)] for rule in rules]
+    told, waiting = {}, [(0, ())]
+    while waiting:
+        name, word = waiting[-1]
+        leaf, calls = leaves[name][_leaf_at(goes, name, word)]
+        lacking = [(called, word + own) for called, own in calls if (called, word + own) not in told]
+        if lacking:
+            waiting.append(lacking[0])
+        else:
+            told[(name, word)] = _number_told(leaf, word, told, numbers)
+            waiting.pop()
+    return told
+
+
+def _number_told(leaf, word, told, numbers):
+    """The number in numbers of what leaf comes to at word, told having those of all for which it asks."""
+    def of_leaf(part):
+        if part[0] == "call":
+            return told[(part[1], word + part[2])]
+        return numbers.setdefault(("thing", word + part[1]), len(numbers))
+    return folded(leaf, of_leaf, lambda maker, parts: numbers.setdefault((maker, tuple(parts)), len(numbers)))
+
+
+def _shape_by_turns(rules, turns):
+    """The SHAPE of the answer of NAME 0 by TURNS; a dict with the knot of the answer of each pair (name, word)
+    that is asked; and whether the answer is too great to be told."""
+    numbers = {}
+    told = _numbered_by_turns(rules, _goes(rules, turns), numbers)
+    parts = _parts_of(numbers)
+    knots = _knots_of(parts, told[(0, ())])
+    return _shape_of(parts, knots), {ask: knots[told[ask]] for ask in told}, _is_too_great(parts)
+
+
+def _is_too_great(parts):
+    """True if the last VALUE that was numbered, whose parts are all the others, is too great."""
+    sizes, depths = [], []
+    for own in parts:
+        sizes.append(1 + sum([sizes[part] for part in own]))
+        depths.append(1 + max([depths[part] for part in own]) if own else 0)
+    return max(sizes) > MOST_PARTS or max(depths) > MOST_MAKINGS_WITHIN
+
+
 def tree_paper(program, depth):
     """A TREE PAPER of program for depth."""
     rules = frozen(program)
-    if can_loop(rules):
+    homes = barred_plain(rules)
+    if not homes:
         raise CanNot()
-    branching, turns = _branching_told(rules, depth)
-    places = {word: place for place, word in enumerate(free_words(rules, turns))}
-    shape, knots = _shape_told(rules, free_meaning(rules, turns), 0)
-    return turns, grown_tree(shape, branching, lambda name, word: knots[(name, places[word])], depth)
+    branching, turns, shape, knots = _branching_told(rules, homes, depth)
+    return turns, grown_tree(shape, branching, lambda name, word: knots[(name, word)], depth)
 
 
-def _branching_told(rules, depth):
-    """The pair of a branching and of its TURNS: the first one by which the answer is not too great to be told,
-    so that it can be compared with what LOOPS make; if there is none, the first one of all."""
-    pairs = [(branching, branching_turns(rules, branching, depth)) for branching in shortest_branchings(rules)]
-    for branching, turns in pairs:
-        try:
-            answer(rules, free_meaning(rules, turns), 0, 0)
-        except TooMuch:
-            continue
-        return branching, turns
-    return pairs[0]
+def _branching_told(rules, homes, depth):
+    """A branching, its TURNS, the SHAPE of the answer by these and its knots: of the first dozen the one by which
+    the answer is not too great to be told, so that it can be compared with what LOOPS make; else the first of all."""
+    search, told = Branchings(rules, homes), []
+    for size in range(2, 2 * MOST_CALLS + 2):
+        for branching in search.of_size(size):
+            turns = search.turns(branching, depth)
+            shape, knots, too_great = _shape_by_turns(rules, turns)
+            told.append((branching, turns, shape, knots))
+            if not too_great:
+                return told[-1]
+            if len(told) == MOST_BRANCHINGS:
+                return told[0]
+    return told[0]
 
 
 def _are_turns(rules, thing):
@@ -175,7 +227,7 @@ def is_tree_paper(program, depth, thing):
     rules = frozen(program)
     if not is_tuple(thing, 2) or not _are_turns(rules, thing[0]):
         return False
-    return is_tree(_shape_told(rules, free_meaning(rules, thing[0]), 0)[0], depth, thing[1])
+    return is_tree(_shape_by_turns(rules, thing[0])[0], depth, thing[1])
 
 
 def fails(program, loops, turns):
