@@ -22,7 +22,7 @@ LIBRARY = {
 METHODS = set(
     "append clear copy count endswith extend find get index insert isalnum isalpha isdigit islower isspace isupper "
     "items join keys ljust lower lstrip partition pop remove replace reverse rfind rjust rpartition rsplit rstrip "
-    "setdefault split splitlines startswith strip update upper values zfill bit_length add discard __init__".split())
+    "setdefault split splitlines startswith strip update upper values zfill bit_length isascii add discard __init__".split())
 KEYWORDS = {"sorted": {"key", "reverse"}, "min": {"key", "default"}, "max": {"key", "default"}, "sum": {"start"},
             "enumerate": {"start"}, "zip": {"strict"}}
 BARRED_NAMES = set(

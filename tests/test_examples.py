@@ -9,7 +9,7 @@ import unittest
 from unwound import errors
 
 MODULES = ("words", "terms", "programs", "rows", "meanings", "webs", "pebbles", "loops", "paths", "sweeps",
-           "rowloops", "nests", "trees")
+           "rowloops", "nests", "trees", "growth", "alike", "tails", "walks", "texts", "judge", "desk")
 EXAMPLES = pathlib.Path(__file__).with_name("examples.txt")
 README = pathlib.Path(__file__).parent.parent / "README.md"
 
@@ -59,7 +59,7 @@ class ExamplesTest(unittest.TestCase):
                         expected = repr(eval(expected, dict(names)))
                     self.assertEqual(told(asked, names), expected)
                     many[heading] = many.get(heading, 0) + 1
-        self.assertEqual(list(many.values()), [6, 5, 6, 7, 7, 5, 6, 6, 5, 5, 4, 5, 6])
+        self.assertEqual(list(many.values()), [6, 5, 6, 7, 7, 5, 6, 6, 5, 5, 4, 5, 6, 5, 6, 6, 6, 8, 5, 4])
 
     def test_errors_are_those_of_the_package(self):
         for asked, kind in (("root_of(())", errors.Unfit), ("called(((\"leaf\", (\"at\", ())),), 1)", errors.NoPlace)):

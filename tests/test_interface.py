@@ -60,10 +60,34 @@ INTERFACE = {
         "ends_by(program)", "free_words(program, turns)", "free_meaning(program, turns)",
         "answer_shape(program, meaning, start)", "tree_paper(program, depth)", "is_tree_paper(program, depth, thing)",
         "fails(program, loops, turns)"),
+    "growth": (
+        "lot_of(program, word)", "calls_within(program, n)", "ways_within(program, n)", "power_of(program)",
+        "ring_row(program)", "is_ring_row(program, thing)", "two_rings(program)", "are_two_rings(program, thing)"),
+    "alike": (
+        "is_marked(program)", "as_met(program)", "put_in(program)", "pairs_of(one, other)",
+        "is_pairs(one, other, thing)", "are_alike(one, other)", "split_of(one, other)", "is_split(one, other, thing)",
+        "parting(one, other)", "is_parting(one, other, thing)"),
+    "tails": (
+        "bare_calls(program)", "bare_names(program)", "waits(program, meaning, name, start)",
+        "led_on(program, meaning, name, start)", "most_waits(program)", "waiting_meaning(program, many)",
+        "is_waiting(program, many, thing)", "bare_loops(program)"),
+    "walks": (
+        "combed(one, maker)", "alike_by(one, other, maker)", "is_spine(program)", "sides(program)",
+        "is_sides(program, thing)", "walk_bar(program)", "is_walk_bar(program, thing)", "walk_loops(program)"),
+    "texts": (
+        "term_text(term)", "value_text(value)", "program_text(program)", "loops_text(loops)", "meaning_text(meaning)",
+        "term_read(word)", "program_read(text)", "loops_read(text)", "meaning_read(text)"),
+    "judge": (
+        "is_claim(thing)", "is_so(claim)", "paper(claim)", "is_paper_for(claim, thing)",
+        "is_paper_against(claim, thing)", "verdicts(claims, things)", "comes_of(claim, claims)",
+        "first_false(claims)"),
+    "desk": (
+        "desk(text)", "is_request(thing)"),
 }
 MANY = {
     "words": 11, "terms": 8, "programs": 16, "rows": 9, "meanings": 12, "webs": 9, "pebbles": 12, "loops": 7, "paths": 6,
-    "sweeps": 13, "rowloops": 6, "nests": 5, "trees": 7}
+    "sweeps": 13, "rowloops": 6, "nests": 5, "trees": 7, "growth": 8, "alike": 10, "tails": 8, "walks": 8,
+    "texts": 9, "judge": 8, "desk": 2}
 
 
 class InterfaceTest(unittest.TestCase):

@@ -84,7 +84,7 @@ def leaf_number(rule, meaning, x):
     return leaf_by(rule, [test for test in tests_of(rule) if meaning[2][test][x]])
 
 
-def _leaf_of(program, meaning, ask):
+def leaf_of(program, meaning, ask):
     """The leaf of ask."""
     name, x = ask
     return leaves_of(program[name])[leaf_number(program[name], meaning, x)]
@@ -98,7 +98,7 @@ def asks_at(program, meaning, name, start):
 
 def _calls_out(program, meaning, ask):
     """The list of the pairs (call, asked): the calls of the leaf of ask, the ASKS to which they lead."""
-    calls = calls_in(_leaf_of(program, meaning, ask))
+    calls = calls_in(leaf_of(program, meaning, ask))
     return [(call, (call[0], thing_at(meaning, ask[1], call[1]))) for call in calls]
 
 
@@ -176,7 +176,7 @@ def _told_at(program, meaning, ask, told, of_thing, of_make):
     def of_leaf(part):
         x = thing_at(meaning, ask[1], part[-1])
         return of_thing(x) if part[0] == "at" else told[(part[1], x)]
-    return folded(_leaf_of(program, meaning, ask), of_leaf, of_make)
+    return folded(leaf_of(program, meaning, ask), of_leaf, of_make)
 
 
 def told_of(program, meaning, ask, of_thing, of_make):

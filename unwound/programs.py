@@ -188,10 +188,10 @@ def reached_part(program):
     """The PROGRAM of the NAMES to which 0 comes, numbered anew in their order."""
     rules = frozen(program)
     numbers = {name: number for number, name in enumerate(reached(rules))}
-    return tuple([_with_names(rules[name], numbers) for name in numbers])
+    return tuple([with_names(rules[name], numbers) for name in numbers])
 
 
-def _with_names(rule, names):
+def with_names(rule, names):
     """The RULE in which NAME f is called names[f]."""
     leaves = leaves_of(rule)
     return rule_folded(
@@ -314,5 +314,5 @@ def renamed(program, names):
     rules, anew = frozen(program), frozen(names)
     if sorted(anew) != list(range(len(rules))):
         raise Unfit()
-    by_name = {anew[name]: _with_names(rule, anew) for name, rule in enumerate(rules)}
+    by_name = {anew[name]: with_names(rule, anew) for name, rule in enumerate(rules)}
     return tuple([by_name[name] for name in range(len(rules))])

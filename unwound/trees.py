@@ -3,8 +3,8 @@
 Asking by TURNS is told by pairs (name, word): the NAME is asked at the WORD.
 """
 
-from unwound.common import frozen, is_natural, is_tuple
 from unwound.branching import MOST_CALLS, Branchings, grown_tree
+from unwound.common import frozen, is_natural, is_tuple
 from unwound.errors import CanNot
 from unwound.loops import end_of
 from unwound.meanings import MOST_MAKINGS_WITHIN, MOST_PARTS, answer, asked_of, numbered
@@ -12,6 +12,7 @@ from unwound.pebbles import is_tree
 from unwound.programs import leaves_of, tests_of, way_to
 from unwound.rows import barred_plain
 from unwound.terms import calls_in, folded, words_in
+from unwound.wordmeanings import beginnings, steps_along, steps_used, tests_used
 from unwound.words import is_word
 
 MOST_BRANCHINGS = 12
@@ -61,8 +62,7 @@ def _free_words(rules, goes):
             if ask not in met:
                 met[ask] = True
                 waiting.append(ask)
-    beginnings = {word[:many] for word in ends for many in range(len(word) + 1)}
-    return tuple(sorted(sorted(beginnings), key=len))
+    return beginnings(ends)
 
 
 def free_words(program, turns):
@@ -76,15 +76,10 @@ def free_meaning(program, turns):
     rules = frozen(program)
     goes = _goes(rules, frozen(turns))
     words = _free_words(rules, goes)
-    places = {word: place for place, word in enumerate(words)}
-    used = [step for rule in rules for leaf in leaves_of(rule) for word in words_in(leaf) for step in word]
-    steps = [
-        tuple([places.get(word + (step,), len(words)) for word in words] + [len(words)])
-        for step in range(max(used, default=-1) + 1)]
     held = _held(rules, goes, words)
     nowhere = (False,) * (len(words) + 1)
-    tests = [held.get(test, nowhere) for test in range(max(held, default=-1) + 1)]
-    return len(words) + 1, tuple(steps), tuple(tests)
+    tests = [held.get(test, nowhere) for test in range(tests_used(rules))]
+    return len(words) + 1, steps_along(words, steps_used(rules)), tuple(tests)
 
 
 def _held(rules, goes, words):
