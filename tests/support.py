@@ -35,9 +35,16 @@ def all_ways(function, args):
     """Lists of arguments (args, named), with lists for tuples, by place and by name, of one outcome."""
     names = list(inspect.signature(function).parameters)
     for number, form in enumerate((lambda value: value, lists, swapped, lambda value: swapped(value, False))):
-        own = [arg if name == "thing" else form(arg) for name, arg in zip(names, args)]
+        own = [in_form(name, arg, form) for name, arg in zip(names, args)]
         by_place = (0, len(own), 1, len(own) - 1)[number]
         yield own[:by_place], dict(reversed(list(zip(names, own))[by_place:]))
+
+
+def in_form(name, arg, form):
+    """arg in this form, but for what may be any value: thing, and each of things."""
+    if name == "things":
+        return list(arg) if isinstance(form(()), list) else arg
+    return arg if name == "thing" else form(arg)
 
 
 def told(function, *args):

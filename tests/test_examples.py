@@ -68,7 +68,7 @@ class ExamplesTest(unittest.TestCase):
 
     def test_readme(self):
         failed, tried = doctest.testfile(str(README), module_relative=False)
-        self.assertEqual((failed, tried), (0, 26))
+        self.assertEqual((failed, tried), (0, 36))
 
 
 if __name__ == "__main__":
