@@ -349,6 +349,11 @@ class PairsTest(unittest.TestCase):
             self.assertIs(alike.is_pairs(ONE, ONE, thing), False, thing)
         for thing in (split[:2], split[1:], split + ((1, 1),), split + ((0, 1),), split[:1] + split[2:], (), split[:1] * 2 + split[1:]):
             self.assertIs(alike.is_split(ONE, THIRD, thing), False, thing)
+        # NAMES that are none, on one side alone.
+        for thing in (pairs + ((2, 0),), pairs + ((2, 1),), pairs + ((9, 1),), (pairs[0], (0, 2), pairs[1]), pairs + ((1, 2),), pairs + ((1, 9),)):
+            self.assertIs(alike.is_pairs(ONE, ONE, thing), False, thing)
+        for thing in (split[:1] + ((2, 0),), split[:1] + ((0, 2),), split[:2] + ((2, 0),), split[:2] + ((1, 2),), ((2, 0),), ((0, 0), (9, 9))):
+            self.assertIs(alike.is_split(ONE, THIRD, thing), False, thing)
         self.assertIs(alike.is_pairs(ONE, THIRD, pairs), False)
         self.assertIs(alike.is_split(ONE, ONE, pairs), False)
 

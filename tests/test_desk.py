@@ -268,6 +268,9 @@ class RepliesTest(unittest.TestCase):
             "done", "done", "done", "done", "done", "refused CanNot", "m0(0)", "rule\nask 0\nleaf x\nleaf m0(f0.1.0,f0.0.1)"])
 
     def test_each_desk_is_its_own(self):
+        found = desk.desk(text="rules\ncan")
+        found.append("done")
+        self.assertEqual(desk.desk("rules\ncan"), ["rule\nleaf x", "yes"])
         first = desk.desk("rules\n" + SHEET + "make\nrules")
         self.assertEqual(first[0], "rule\nleaf x")
         self.assertEqual(desk.desk("rules\n" + SHEET + "make\nrules"), first)

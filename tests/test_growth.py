@@ -268,6 +268,11 @@ class RingsTest(unittest.TestCase):
         near, far = growth.calls_within(program, 10 ** 6), growth.calls_within(program, 10 ** 9)
         self.assertTrue(10 ** (3 * power) * near <= 1000 * far and far <= 1000 * near * 10 ** (3 * power), program)
 
+    def test_three_steps_round(self):
+        program = named([(0, (0,)), (0, (1,)), (0, (2,))])
+        self.assertIs(growth.are_two_rings(program, growth.two_rings(program)), True)
+        self.assertEqual(growth.calls_within(program, 300), (3 ** 301 - 1) // 2)
+
     def test_two_rings_double(self):
         for program in PROGRAMS:
             if has_two_rings(program):
@@ -300,6 +305,7 @@ class RingsTest(unittest.TestCase):
         for thing in itertools.chain(variants(own), odd_things()):
             self.assertIs(growth.are_two_rings(FORK, thing), False, thing)
         for thing in (
+                ((), (0, 1), (1,)), ((), (1,), (0, 1)), ((), (0, 1), (0,)), ((), (0,), (1, 0)), ((0,), (1, 0), (1,)),
                 ((), (0, 1), (0, 1)), ((), (0, 1), (0, 1, 0, 1)), ((), (), (0, 1)), ((0,), (0, 1), (1, 0)),
                 ((0, 0), (0, 1), (1, 0)), ((2,), (0,), (1,)), own + ((),), own[:2]):
             self.assertIs(growth.are_two_rings(FORK, thing), False, thing)

@@ -355,6 +355,11 @@ class ManyTest(unittest.TestCase):
         self.assertEqual(judge.verdicts(claims, list(things)), expected)
         # A list within is a list.
         self.assertEqual(judge.verdicts(claims, lists(things)), ["none"] * 5)
+        self.assertEqual(judge.verdicts(things=things, claims=claims), expected)
+        # The list belongs to the caller.
+        found = judge.verdicts(claims, things)
+        found.clear()
+        self.assertEqual(judge.verdicts(claims, things), expected)
         self.assertEqual(judge.verdicts((), ()), [])
         self.assertEqual(judge.verdicts([], []), [])
 

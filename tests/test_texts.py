@@ -219,7 +219,8 @@ class TermsTest(unittest.TestCase):
                 "f00", "f01.0", "f0.", "f-1", "f0,x", "m0", "m0(", "m0()", "m0(x", "m0x)", "m0(x))", "m0(x,)", "m0(,x)",
                 "m0(x,,x)", "m0(x)x", "m0(x)(x)", "m0(x),x", "m(x)", "m00(x)", "m0.1(x)", "m0((x))", "(x)", "()", ")", ",", "(",
                 "x)", "x(", "x()", "m0 (x)", "m0( x)", "m0(x, x)", "m0(m1)", "m0(m1())", "0", "7", "m0(7)", "x\n", "\nx", "m0(x\n)",
-                "x.1\n", "leaf x", "f0(x)", "mx(x)", "m0[x]", "x;0", "x+1", "x.+1", "x.1_0", "xx", "ff0", "m0(x)m0(x)"):
+                "x.1\n", "leaf x", "f0(x)", "mx(x)", "m0[x]", "x;0", "x+1", "x.+1", "x.1_0", "xx", "ff0", "m0(x)m0(x)",
+                "m0(x(x)", "m0(x(x))", "m0(x(x,x)", "m0(m1(x)x)", "m0(m1(x)x,x)", "m0(m1(x)(x)", "m0(x,m1"):
             self.assertIsNone(told(texts.term_read, word), word)
             self.assertIsNone(plain_term(word), word)
         for word in ("x", "x.0", "x.10.0", "f0", "f10.3", "m0(x)", "m10(x,f0,m0(m0(x.1)))", "x.123456789012"):

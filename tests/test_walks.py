@@ -305,6 +305,13 @@ class SpinesTest(unittest.TestCase):
             self.assertIs(walks.is_sides(SPINE, thing), False, thing)
         for thing in itertools.chain(variants((None, (), ())), odd_things()):
             self.assertIs(walks.is_sides(BARE, thing), False, thing)
+        # True is no number, though it is equal to 1.
+        ones = (("ask", 0, ("leaf", X), ("leaf", ("make", 1, (("make", 1, (ON, ("make", 1, (("at", (0, 1)),)))), ("at", (1,)))))),)
+        for program in (ones, (("ask", 0, ("leaf", X), ("leaf", ("make", 1, (("at", (1,)), ON)))),)):
+            found = walks.sides(program)
+            self.assertIs(walks.is_sides(program, found), True)
+            for thing in variants(found):
+                self.assertIs(walks.is_sides(program, thing), False, thing)
         for thing in (own[:2], own + ((),), (1, own[2], own[1]), (2,) + own[1:], (1, own[1] * 2, own[2]), lists(own)):
             self.assertIs(walks.is_sides(SPINE, thing), False, thing)
         for program in BARRED[:60]:

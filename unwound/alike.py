@@ -6,7 +6,7 @@ from unwound.meanings import is_for, is_meaning, parted_things
 from unwound.programs import called, leaves_of, reached, rule_folded, way_to, with_names
 from unwound.terms import folded, led, making, occurrences
 from unwound.trees import ends_by
-from unwound.wordmeanings import beginnings, ending_sides, meaning_along, sides_at, steps_used, tests_used
+from unwound.wordmeanings import beginnings, ending_sides, meaning_along, steps_used, tests_used
 
 MOST_PARTS_PUT_IN = 60
 
@@ -215,17 +215,16 @@ def parting(one, other):
     """
     rules, others = _both_marked(one, other)
     split = split_of(rules, others)
-    told, at = {}, ()
+    settled, at = [], ()
     for pair, after in zip(split, split[1:]):
         number, word = _call_on(rules[pair[0]], others[pair[1]], after)
-        told.update(sides_at(rules[pair[0]], number, at))
+        settled.append((rules[pair[0]], number, at))
         at = at + word
-    settled, words = _apart(rules, others, split[-1])
-    for rule, number, word in settled:
-        told.update(sides_at(rule, number, at + word))
+    ends, words = _apart(rules, others, split[-1])
+    settled.extend([(rule, number, at + word) for rule, number, word in ends])
     things = beginnings([at] + [at + word for word in words])
     tables = (max(steps_used(rules), steps_used(others)), max(tests_used(rules), tests_used(others)))
-    return meaning_along(things, tables, ending_sides(rules, ends_by(rules)), told), 0
+    return meaning_along(things, tables, ending_sides(rules, ends_by(rules)), settled), 0
 
 
 def _call_on(rule, other, after):

@@ -100,7 +100,7 @@ class Rings:
     def steps_round(self, place):
         """The list of the STEPS from place by which one can come round to it."""
         led_to = self.onward[place]
-        return [step for step in led_to if led_to[step] == place or place in self.after[led_to[step]]]
+        return [step for step in led_to if place in self.after[led_to[step]]]
 
     def parting_place(self):
         """The first place from which one comes round by two unlike STEPS; None if there is none."""

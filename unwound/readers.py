@@ -55,7 +55,7 @@ def term_of(word):
             if mark == ")":
                 open_ones.pop()
                 term = making(own, terms)
-    return None if open_ones or maker is not None else term
+    return None if open_ones else term
 
 
 def _marks(word):

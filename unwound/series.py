@@ -22,7 +22,7 @@ def sum_far(first, lengths, n):
         top = top[far & 1::2]
         divisors = [length if length & 1 else length // 2 for length in divisors]
         far //= 2
-    return top[0] if top else 0
+    return top[0]
 
 
 def _with_shifted(row, length, times):

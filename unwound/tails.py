@@ -7,7 +7,7 @@ from unwound.programs import components, homes_of, leaves_of, own_table, reached
 from unwound.sheets import Sheet, most_parts, rule_code, steps_deeds, term_code
 from unwound.terms import calls_in
 from unwound.trees import ends_by
-from unwound.wordmeanings import beginnings, ending_sides, meaning_along, sides_at, steps_used, tests_used
+from unwound.wordmeanings import beginnings, ending_sides, meaning_along, steps_used, tests_used
 
 
 def bare_calls(program):
@@ -90,12 +90,12 @@ def waiting_meaning(program, many):
     is the last thing, at which each NAME goes to the leaf that it ends by.
     """
     rules = frozen(program)
-    told, at = {}, ()
+    settled, at = [], ()
     for name, number, word in _waiting_way(rules, many):
-        told.update(sides_at(rules[name], number, at))
+        settled.append((rules[name], number, at))
         at = at + word
     tables = (steps_used(rules), tests_used(rules))
-    return meaning_along(beginnings([at]), tables, ending_sides(rules, ends_by(rules)), told), 0
+    return meaning_along(beginnings([at]), tables, ending_sides(rules, ends_by(rules)), settled), 0
 
 
 def _waiting_way(rules, many):

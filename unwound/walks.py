@@ -38,7 +38,7 @@ def is_spine(program):
 
 def _body_of(rules):
     """The place of the leaf that is the body of a spine; None if rules are no spine."""
-    if len(rules) > 1 or rules[0][0] != "ask" or len(leaves_of(rules[0])) != 2:
+    if len(rules) > 1:
         return None
     many = [len(calls_in(leaf)) for leaf in leaves_of(rules[0])]
     return many.index(1) if sorted(many) == [0, 1] else None
@@ -121,7 +121,7 @@ def walk_bar(program):
 def is_walk_bar(program, thing):
     """True if thing is one of the BARS of program."""
     rules, body = _spine(program)
-    if not isinstance(thing, tuple) or len(thing) not in (1, 2) or not isinstance(thing[0], str):
+    if not isinstance(thing, tuple):
         return False
     return all(is_natural(place) for place in thing[1:]) and thing in _bars(body)
 

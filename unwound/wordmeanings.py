@@ -38,14 +38,10 @@ def ending_sides(rules, ends):
     return {test: yes for rule, leaf in zip(rules, ends) for test, yes in way_to(rule, leaf)}
 
 
-def sides_at(rule, number, word):
-    """For the pairs (TEST, word) on the way to the leaf of this number: whether the TEST holds there."""
-    return {(test, word): yes for test, yes in way_to(rule, number)}
-
-
-def meaning_along(words, tables, ending, told):
-    """The MEANING of words, tables being how many it has of STEPS and of TESTS; told has, for some pairs
-    (TEST, WORD), whether the TEST holds there; elsewhere it holds as ending has it."""
+def meaning_along(words, tables, ending, settled):
+    """The MEANING of words, tables being how many it has of STEPS and of TESTS. For each triple (RULE, place of a leaf,
+    WORD) of settled the TESTS of the RULE lead to this leaf at the WORD; elsewhere TESTS hold as ending has it."""
+    told = {(test, word): yes for rule, number, word in settled for test, yes in way_to(rule, number)}
     tests = [
         tuple([told.get((test, word), ending.get(test, False)) for word in words] + [ending.get(test, False)])
         for test in range(tables[1])]
