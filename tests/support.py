@@ -22,6 +22,23 @@ def swapped(value, odd=True):
     return value
 
 
+def mixed(dice, value):
+    """value with lists in the place of some of its tuples, at any depth."""
+    if isinstance(value, (list, tuple)):
+        parts = [mixed(dice, part) for part in value]
+        return parts if dice.random() < 0.5 else tuple(parts)
+    return value
+
+
+def deep_program(levels, kind=tuple):
+    """A PROGRAM with so many "make" one within another, more than can be come to by recursion; kind is list or tuple."""
+    term = kind(("call", 0, kind((0,))))
+    for _ in range(levels):
+        term = kind(("make", 1, kind((term,))))
+    end = kind(("leaf", kind(("make", 2, kind((kind(("at", kind(()))),))))))
+    return kind((kind(("ask", 0, end, kind(("leaf", term)))),))
+
+
 def outcome(function, args, named):
     """("value", what is returned, as it is written) or ("error", its class, its attributes)."""
     try:

@@ -4,12 +4,13 @@ import itertools
 import unittest
 
 from tests import plain
-from tests.support import chance, meaning_by_chance, odd_things, rules_by_chance, told, variants, word_by_chance
+from tests.support import (
+    chance, deep_program, meaning_by_chance, mixed, odd_things, outcome, rules_by_chance, told, variants, word_by_chance)
 from unwound import alike
 from unwound.errors import CanNot, TooMuch, Unfit
 from unwound.meanings import answer_parts, is_for, is_meaning, parted_things
 from unwound.programs import is_program, renamed
-from unwound.terms import led
+from unwound.terms import depth, led
 
 AT, END = ("at", ()), ("leaf", ("make", 2, (("at", ()),)))
 BACK = ("leaf", ("make", 3, (("at", (0,)),)))
@@ -282,6 +283,48 @@ class AnewTest(unittest.TestCase):
             great += (("leaf", ("make", 0, (("call", name, ()),) * 7)),)
         with self.assertRaises(TooMuch):
             alike.put_in(great + (("leaf", AT),))
+
+
+class KindsOfListsTest(unittest.TestCase):
+
+    def test_lists_within_tuples(self):
+        dice = chance(181)
+        for one, other in PAIRS[:120]:
+            calls = [(function, (one, other), ()) for function in (
+                alike.pairs_of, alike.are_alike, alike.split_of, alike.parting)]
+            calls += [(function, (one,), ()) for function in (alike.is_marked, alike.as_met, alike.put_in)]
+            for function, check in (
+                    (alike.pairs_of, alike.is_pairs), (alike.split_of, alike.is_split), (alike.parting, alike.is_parting)):
+                kind, found, *_ = outcome(function, (one, other), {})
+                calls.append((check, (one, other), (found if kind == "value" else ((0, 0),),)))
+            for function, args, rest in calls:
+                expected = outcome(function, args + rest, {})
+                for _ in range(3):
+                    own = tuple(mixed(dice, arg) for arg in args)
+                    self.assertEqual(outcome(function, own + rest, {}), expected)
+
+    def test_put_in_of_lists_within_tuples(self):
+        dice = chance(182)
+        for seed in range(300):
+            rules = rules_by_chance(chance(seed))
+            if is_program(rules):
+                for function in (alike.as_met, alike.put_in, alike.is_marked):
+                    expected = outcome(function, (rules,), {})
+                    self.assertEqual(outcome(function, (mixed(dice, rules),), {}), expected)
+
+    def test_terms_that_nest_very_deep(self):
+        deep, deeper = deep_program(5000), deep_program(5001, list)
+        for program in (deep, deep_program(5000, list)):
+            self.assertIs(alike.is_marked(program), True)
+            self.assertEqual(depth(alike.as_met(program)[0][3][1]), 5000)
+            self.assertIs(alike.are_alike(program, deep), True)
+            self.assertEqual(alike.pairs_of(program, deep), ((0, 0),))
+            self.assertIs(alike.is_pairs(program, deep, ((0, 0),)), True)
+            self.assertIs(alike.are_alike(program, deeper), False)
+            self.assertEqual(alike.split_of(deeper, program), ((0, 0),))
+            self.assertIs(alike.is_split(program, deeper, ((0, 0),)), True)
+            self.assertIs(alike.is_parting(program, deeper, alike.parting(program, deeper)), True)
+            self.assertRaises(TooMuch, alike.put_in, program)
 
 
 class PairsTest(unittest.TestCase):

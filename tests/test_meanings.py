@@ -4,7 +4,8 @@ import unittest
 
 from tests import plain
 from tests.support import (
-    chance, meaning_by_chance, nested, odd_things, rules_by_chance, told, variants, word_by_chance)
+    chance, deep_program, meaning_by_chance, mixed, nested, odd_things, outcome, rules_by_chance, told, variants,
+    word_by_chance)
 from unwound import meanings
 from unwound.errors import CanNot, NoPlace, TooMuch, Unfit
 
@@ -330,6 +331,77 @@ class AnswersTest(unittest.TestCase):
         # Thing 5 is bent for NAME 1 alone, to which it comes from 0, 2 and 4.
         bent = (chain[2][0], (True,) * 5 + (False,) + (True,) * 34)
         self.assertEqual(told(meanings.parted_things, GROWING, in_turn, chain[:2] + (chain[2] + bent,)), (0, 2, 4))
+
+
+class ManyCallsTest(unittest.TestCase):
+    """What is read once of a PROGRAM and a MEANING, for many ASKS, is what each ASK alone comes to."""
+
+    def test_along_a_line(self):
+        line = tuple(min(x + 1, 39) for x in range(40))
+        far = (40, (line,), ((False,) * 38 + (True, True),))
+        one = ("make", 1, (("make", 1, (("call", 0, (0,)),)),))
+        for start in (16, 17, 38):
+            value = ("thing", 38)
+            for _ in range(2 * (38 - start)):
+                value = ("make", 1, (value,))
+            self.assertEqual(told(meanings.answer, (("ask", 0, END, ("leaf", one)),), far, 0, start), value)
+        self.assertRaises(TooMuch, told, meanings.answer, (("ask", 0, END, ("leaf", one)),), far, 0, 15)
+        other = (TWIN[0][:3] + (("leaf", ("make", 2) + TWIN[0][3][1][2:]),),)
+        self.assertEqual(told(meanings.parted_things, TWIN, other, far), tuple(range(38)))
+        self.assertEqual(told(meanings.parted_things, TWIN, TWIN, far), ())
+        parts = [1, 1]
+        while len(parts) < 40:
+            parts.append(1 + parts[-1] + parts[-2])
+        for start in (0, 20, 37, 38, 39):
+            self.assertEqual(told(meanings.answer_parts, TWIN, far, 0, start), parts[39 - start])
+
+    def test_words_of_each_length(self):
+        step, back = (1, 2, 3, 4, 5, 5), (0, 0, 1, 2, 3, 4)
+        sense = (6, (step, back), ((False, False, False, False, False, True),))
+        words = ((), (0,), (1,), (0, 0), (0, 1), (1, 0), (0, 0, 1), (1, 1, 0), (0, 0, 0, 0), (0, 1, 0, 0), (1, 1, 1, 0))
+        calls = tuple(("call", 1, word) for word in words)
+        program = (
+            ("ask", 0, END, ("leaf", ("make", 0, tuple(("at", word) for word in words) + (("make", 1, calls),)))),
+            ("leaf", ("make", 2, (("at", (0,)), ("at", ())))))
+        for start in range(6):
+            self.assertEqual(told(meanings.answer, program, sense, 0, start), plain.value(program, sense, (0, start)))
+            asked = tuple(sorted({(1, plain.led(sense, start, word)) for word in words})) if start < 5 else ()
+            self.assertEqual(told(meanings.asks_at, program, sense, 0, start), asked)
+
+    def test_lists_within_tuples(self):
+        dice = chance(85)
+        for program, meaning in PAIRS:
+            other = dice.choice(PAIRS)[0]
+            for function in ASKING + (meanings.parted_things, meanings.is_for, meanings.led_thing, meanings.is_ring):
+                args = (program, meaning, dice.randrange(len(program)), dice.randrange(meaning[0]))
+                if function in (meanings.parted_things, meanings.is_for):
+                    args = (program, other, meaning) if function is meanings.parted_things else (meaning, program)
+                elif function is meanings.led_thing:
+                    args = (meaning, args[3], word_by_chance(dice, 4))
+                rest = ()
+                if function is meanings.is_ring:
+                    rest = (meanings.ring_from(*args) or ((0, 0),),)
+                expected = outcome(function, args + rest, {})
+                for _ in range(3):
+                    self.assertEqual(outcome(function, tuple(mixed(dice, own) for own in args) + rest, {}), expected)
+
+    def test_terms_that_nest_very_deep(self):
+        line = LINE[:2] + (LINE[2] * 2,)
+        for kind in (tuple, list):
+            program = deep_program(5000, kind)
+            self.assertIs(meanings.is_for(LINE, program), True)
+            self.assertIs(meanings.is_for((3, (), LINE[2]), program), False)
+            self.assertEqual(meanings.leaf_at(program, LINE, 0, 1), 1)
+            self.assertEqual(meanings.asks_at(program, LINE, 0, 1), ((0, 2),))
+            self.assertEqual(meanings.asks_from(program, LINE, 0, 1), ((0, 1), (0, 2)))
+            self.assertEqual(meanings.answer_parts(program, line, 0, 0), 10002)
+            self.assertEqual(meanings.answer(program, line, 0, 2), ("make", 2, (("thing", 2),)))
+            self.assertRaises(TooMuch, meanings.answer, program, LINE, 0, 1)
+            self.assertRaises(CanNot, meanings.answer, program, LOOP, 0, 1)
+            self.assertEqual(meanings.parted_things(program, deep_program(5000), LINE), ())
+            self.assertEqual(meanings.parted_things(program, deep_program(4999), LINE), (0, 1))
+            self.assertIsNone(meanings.ring_from(program, LINE, 0, 0))
+            self.assertIs(meanings.is_ring(program, LOOP, 0, 0, ((0, 1), (0, 0))), True)
 
 
 class ErrorsTest(unittest.TestCase):

@@ -23,33 +23,35 @@ def frozen(value):
     """
     if not _holds_list(value):
         return value
-    parts, waiting = [], [value]
+    wholes, waiting = [], [value]
     while waiting:
-        part = waiting.pop()
-        parts.append(part)
-        if isinstance(part, (list, tuple)):
-            waiting.extend(part)
+        whole = waiting.pop()
+        within = [part for part in whole if isinstance(part, (list, tuple))]
+        wholes.append((whole, len(within)))
+        waiting.extend(within[::-1])
     done = []
-    for part in reversed(parts):
-        if isinstance(part, (list, tuple)):
-            first = len(done) - len(part)
-            items = tuple(done[first:])
-            del done[first:]
-            done.append(items)
+    for whole, many in reversed(wholes):
+        if many == 0:
+            done.append(tuple(whole))
         else:
-            done.append(part)
+            # Those within it came last, the first of them at the very end.
+            items = [done.pop() if isinstance(part, (list, tuple)) else part for part in whole]
+            done.append(tuple(items))
     return done[0]
 
 
 def _holds_list(value):
     """True if value is a list, or there is one in it."""
+    if not isinstance(value, tuple):
+        return isinstance(value, list)
     waiting = [value]
     while waiting:
-        part = waiting.pop()
-        if isinstance(part, tuple):
-            waiting.extend(part)
-        elif isinstance(part, list):
-            return True
+        whole = waiting.pop()
+        for part in whole:
+            if isinstance(part, tuple):
+                waiting.append(part)
+            elif isinstance(part, list):
+                return True
     return False
 
 

@@ -2,7 +2,7 @@
 
 from unwound.common import behind_order, frozen, is_natural, is_tuple, require_place
 from unwound.errors import Endless, Ring, Unfit
-from unwound.terms import calls_in, folded, is_term, making
+from unwound.terms import calls_in, folded, is_term, making, occurrences
 
 
 def is_program(thing):
@@ -51,19 +51,41 @@ def _choices(rule):
     return found
 
 
-def _calls(rule):
-    """The list of the calls of the leaves of rule, those of each leaf once."""
-    return [call for leaf in leaves_of(rule) for call in calls_in(leaf)]
+def leaves_in(rule):
+    """The list of the leaves of rule, from left to right, lists or tuples as they stand."""
+    return [choice[1] for choice in _choices(rule) if choice[0] == "leaf"]
+
+
+def calls_in_order(rule):
+    """The list of the calls in rule, lists or tuples as they stand, from left to right, as often as they stand."""
+    return [part for leaf in leaves_in(rule) for part in occurrences(leaf) if part[0] == "call"]
 
 
 def _names_called(rule):
     """The list, ascending, of the NAMES that rule calls."""
-    return sorted({name for name, word in _calls(rule)})
+    return sorted({call[1] for call in calls_in_order(rule)})
 
 
 def _called_at_once(rule):
     """The list, ascending, of the NAMES that rule calls without a STEP."""
-    return sorted({name for name, word in _calls(rule) if not word})
+    return sorted({call[1] for call in calls_in_order(rule) if not call[2]})
+
+
+def tables_used(program):
+    """The pair of how many tables of STEPS and how many of TESTS program takes."""
+    steps, tests, waiting = [-1], [-1], list(program)
+    while waiting:
+        part = waiting.pop()
+        if part[0] == "ask":
+            tests.append(part[1])
+            waiting.extend(part[2:])
+        elif part[0] == "leaf":
+            waiting.append(part[1])
+        elif part[0] == "make":
+            waiting.extend(part[2])
+        else:
+            steps.extend(part[-1])
+    return max(steps) + 1, max(tests) + 1
 
 
 def _order_at_once(rules):
@@ -100,7 +122,7 @@ def _endless(rules):
     """The set of the NAMES that can not end."""
     lacking, users = [], [[] for _ in rules]
     for name, rule in enumerate(rules):
-        for leaf in leaves_of(rule):
+        for leaf in leaves_in(rule):
             needed = sorted({called_name for called_name, word in calls_in(leaf)})
             for called_name in needed:
                 users[called_name].append(len(lacking))
@@ -127,20 +149,20 @@ def _now_ending(lacking, leaves):
 
 def leaves_of(rule):
     """The tuple of the leaves of rule, from left to right."""
-    return tuple([choice[1] for choice in _choices(frozen(rule)) if choice[0] == "leaf"])
+    return tuple(leaves_in(frozen(rule)))
 
 
 def tests_of(rule):
     """The set of the TESTS of rule."""
-    return tuple(sorted({choice[1] for choice in _choices(frozen(rule)) if choice[0] == "ask"}))
+    return tuple(sorted({choice[1] for choice in _choices(rule) if choice[0] == "ask"}))
 
 
 def way_to(rule, number):
     """The tuple of the pairs (test, yes), in order, by which one comes to the leaf of this number."""
-    require_place(number, len(leaves_of(rule)))
-    choice, ahead, way = frozen(rule), number, []
+    require_place(number, len(leaves_in(rule)))
+    choice, ahead, way = rule, number, []
     while choice[0] == "ask":
-        many = len(leaves_of(choice[2]))
+        many = len(leaves_in(choice[2]))
         yes = ahead < many
         way.append((choice[1], yes))
         if not yes:
@@ -151,26 +173,25 @@ def way_to(rule, number):
 
 def leaf_by(rule, held):
     """The number of the leaf to which one comes if of the TESTS of rule those in held hold."""
-    choice, holding, number = frozen(rule), frozen(held), 0
+    choice, number = rule, 0
     while choice[0] == "ask":
-        if choice[1] in holding:
+        if choice[1] in held:
             choice = choice[2]
         else:
-            number += len(leaves_of(choice[2]))
+            number += len(leaves_in(choice[2]))
             choice = choice[3]
     return number
 
 
 def called(program, name):
     """The set of the NAMES that name calls."""
-    rules = frozen(program)
-    require_place(name, len(rules))
-    return tuple(_names_called(rules[name]))
+    require_place(name, len(program))
+    return tuple(_names_called(program[name]))
 
 
 def reached(program):
     """The set of the NAMES to which 0 comes."""
-    return _come_to([_names_called(rule) for rule in frozen(program)], 0)
+    return _come_to([_names_called(rule) for rule in program], 0)
 
 
 def _come_to(nexts, first):
@@ -186,28 +207,31 @@ def _come_to(nexts, first):
 
 def reached_part(program):
     """The PROGRAM of the NAMES to which 0 comes, numbered anew in their order."""
-    rules = frozen(program)
-    numbers = {name: number for number, name in enumerate(reached(rules))}
-    return tuple([with_names(rules[name], numbers) for name in numbers])
+    numbers = {name: number for number, name in enumerate(reached(program))}
+    return tuple([with_names(program[name], numbers) for name in numbers])
 
 
 def with_names(rule, names):
-    """The RULE in which NAME f is called names[f]."""
-    leaves = leaves_of(rule)
+    """The RULE, with tuples for lists, in which NAME f is called names[f]."""
+    return with_leaves(rule, lambda part: _part_with_name(part, names))
+
+
+def with_leaves(rule, of_part):
+    """The RULE in which of_part(part) stands for each part of its leaves that has no terms."""
     return rule_folded(
         rule,
-        lambda number: ("leaf", _leaf_with_names(leaves[number], names)),
+        lambda number, leaf: ("leaf", folded(leaf, of_part, making)),
         lambda test, yes, no: ("ask", test, yes, no))
 
 
 def rule_folded(rule, of_leaf, of_ask):
-    """What rule comes to if its leaf of each number comes to of_leaf(number), from the last one to the
-    first, and each ask to of_ask(test, yes, no), yes and no being what its two CHOICES come to."""
-    made, number = [], len(leaves_of(rule))
+    """What rule comes to if each leaf comes to of_leaf(number, leaf), from the last one to the first, and
+    each ask to of_ask(test, yes, no), yes and no being what its two CHOICES come to."""
+    made, number = [], len(leaves_in(rule))
     for choice in reversed(_choices(rule)):
         if choice[0] == "leaf":
             number -= 1
-            made.append(of_leaf(number))
+            made.append(of_leaf(number, choice[1]))
         else:
             yes = made.pop()
             no = made.pop()
@@ -215,16 +239,11 @@ def rule_folded(rule, of_leaf, of_ask):
     return made[0]
 
 
-def _leaf_with_names(leaf, names):
-    """The TERM in which NAME f is called names[f]."""
-    return folded(leaf, lambda part: _part_with_name(part, names), making)
-
-
 def _part_with_name(part, names):
     """The TERM without terms in which NAME f is called names[f]."""
     if part[0] == "at":
-        return part
-    return ("call", names[part[1]], part[2])
+        return ("at", tuple(part[1]))
+    return ("call", names[part[1]], tuple(part[2]))
 
 
 def components(program):
@@ -266,7 +285,7 @@ def own_table(rules):
     """The list with, for each NAME, the tuple with, for each of its leaves, the set of its own calls."""
     homes = homes_of(rules)
     return [
-        tuple([_calls_of(leaf, homes[name]) for leaf in leaves_of(rule)])
+        tuple([_calls_of(leaf, homes[name]) for leaf in leaves_in(rule)])
         for name, rule in enumerate(rules)]
 
 

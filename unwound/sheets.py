@@ -106,7 +106,7 @@ def rule_code(sheet, name, cell, onward):
     """The block from which the RULE of name asks its TESTS of the thing in cell; from its leaf of each
     number it goes on at the block onward(number)."""
     return rule_folded(
-        sheet.rules[name], onward,
+        sheet.rules[name], lambda number, leaf: onward(number),
         lambda test, yes, no: yes if yes == no else sheet.block((), ("ask", test, cell, yes, no)))
 
 

@@ -3,11 +3,11 @@
 from unwound.common import frozen, is_natural, is_tuple
 from unwound.errors import CanNot, Unfit
 from unwound.meanings import asked_of, ending_order, is_for, is_meaning, leaf_of, thing_at, web_from
-from unwound.programs import components, homes_of, leaves_of, own_table, reached
+from unwound.programs import components, homes_of, leaves_of, own_table, reached, tables_used
 from unwound.sheets import Sheet, most_parts, rule_code, steps_deeds, term_code
 from unwound.terms import calls_in
 from unwound.trees import ends_by
-from unwound.wordmeanings import beginnings, ending_sides, meaning_along, steps_used, tests_used
+from unwound.wordmeanings import beginnings, ending_sides, meaning_along
 
 
 def bare_calls(program):
@@ -94,8 +94,8 @@ def waiting_meaning(program, many):
     for name, number, word in _waiting_way(rules, many):
         settled.append((rules[name], number, at))
         at = at + word
-    tables = (steps_used(rules), tests_used(rules))
-    return meaning_along(beginnings([at]), tables, ending_sides(rules, ends_by(rules)), settled), 0
+    ending = ending_sides(rules, ends_by(rules))
+    return meaning_along(beginnings([at]), tables_used(rules), ending, settled), 0
 
 
 def _waiting_way(rules, many):

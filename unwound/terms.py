@@ -72,25 +72,22 @@ def making(maker, terms):
 
 def depth(term):
     """The greatest number of "make" that stand one within another in term."""
-    return folded(frozen(term), lambda part: 0, lambda maker, depths: 1 + max(depths))
+    return folded(term, lambda part: 0, lambda maker, depths: 1 + max(depths))
 
 
 def calls_in(term):
     """The set of the calls (name, word) of term."""
-    parts = occurrences(frozen(term))
-    return tuple(sorted({(part[1], part[2]) for part in parts if part[0] == "call"}))
+    return tuple(sorted({(part[1], tuple(part[2])) for part in occurrences(term) if part[0] == "call"}))
 
 
 def words_in(term):
     """The set of the WORDS that stand in term."""
-    parts = occurrences(frozen(term))
-    return tuple(sorted({part[-1] for part in parts if part[0] != "make"}))
+    return tuple(sorted({tuple(part[-1]) for part in occurrences(term) if part[0] != "make"}))
 
 
 def makers_in(term):
     """The set of the MAKERS of term."""
-    parts = occurrences(frozen(term))
-    return tuple(sorted({part[1] for part in parts if part[0] == "make"}))
+    return tuple(sorted({part[1] for part in occurrences(term) if part[0] == "make"}))
 
 
 def parts_in_order(term):

@@ -9,10 +9,10 @@ from unwound.errors import CanNot
 from unwound.loops import end_of
 from unwound.meanings import MOST_MAKINGS_WITHIN, MOST_PARTS, answer, asked_of, numbered
 from unwound.pebbles import is_tree
-from unwound.programs import leaves_of, tests_of, way_to
+from unwound.programs import leaves_in, leaves_of, tables_used, tests_of, way_to
 from unwound.rows import barred_plain
 from unwound.terms import calls_in, folded, words_in
-from unwound.wordmeanings import beginnings, steps_along, steps_used, tests_used
+from unwound.wordmeanings import beginnings, steps_along
 from unwound.words import is_word
 
 MOST_BRANCHINGS = 12
@@ -20,7 +20,7 @@ MOST_BRANCHINGS = 12
 
 def ends_by(program):
     """The tuple with, for each NAME, the place of the leaf that it ends by."""
-    needed = [[sorted({name for name, word in calls_in(leaf)}) for leaf in leaves_of(rule)] for rule in frozen(program)]
+    needed = [[sorted({name for name, word in calls_in(leaf)}) for leaf in leaves_in(rule)] for rule in program]
     ends = [None] * len(needed)
     while None in ends:
         # What gets its leaf in one round does not count until the next one.
@@ -78,8 +78,9 @@ def free_meaning(program, turns):
     words = _free_words(rules, goes)
     held = _held(rules, goes, words)
     nowhere = (False,) * (len(words) + 1)
-    tests = [held.get(test, nowhere) for test in range(tests_used(rules))]
-    return len(words) + 1, steps_along(words, steps_used(rules)), tuple(tests)
+    many_steps, many_tests = tables_used(rules)
+    tests = [held.get(test, nowhere) for test in range(many_tests)]
+    return len(words) + 1, steps_along(words, many_steps), tuple(tests)
 
 
 def _held(rules, goes, words):

@@ -4,25 +4,13 @@ Where no thing is such a WORD a STEP leads to one more thing, the last; from the
 goes there to the leaf that it ends by, nothing is asked for ever.
 """
 
-from unwound.programs import leaves_of, tests_of, way_to
-from unwound.terms import words_in
+from unwound.programs import way_to
 
 
 def beginnings(words):
     """The tuple of all beginnings of words, themselves too, shorter ones first, of one length ascending."""
     found = {word[:many] for word in words for many in range(len(word) + 1)}
     return tuple(sorted(sorted(found), key=len))
-
-
-def steps_used(rules):
-    """How many tables of STEPS the PROGRAM rules takes."""
-    used = [step for rule in rules for leaf in leaves_of(rule) for word in words_in(leaf) for step in word]
-    return max(used, default=-1) + 1
-
-
-def tests_used(rules):
-    """How many tables of TESTS the PROGRAM rules takes."""
-    return max([test for rule in rules for test in tests_of(rule)], default=-1) + 1
 
 
 def steps_along(words, many):
